@@ -1,0 +1,168 @@
+"""Every function of the interface with one good call, and wrong values of each parameter."""
+
+from signrounds import alike, camps, class_numbers, classes, errors, round_signs, webs
+from tests.samples import OTHERS, circle_web, empty_web, full_web, nested
+
+# Four places, of which just 0 and 3, 1 and 3 are not tied; one round, a bad one.
+WEB = ((0, -1, 1, 0), (-1, 0, 1, 0), (1, 1, 0, -1), (0, 0, -1, 0))
+# The same ties without a foe, and with the round bad by another tie.
+CALM = ((0, 1, 1, 0), (1, 0, 1, 0), (1, 1, 0, 1), (0, 0, 1, 0))
+LIKE = ((0, 1, -1, 0), (1, 0, 1, 0), (-1, 1, 0, 1), (0, 0, 1, 0))
+FULL = full_web(4, 1)
+RINGS = ((0, 1, 2), (0, 1, 3), (0, 1, 2))
+
+WRONG_WEBS = [
+    None, True, 0, 3, "", ".-/-.", (), [], [[0]], ([0],), ((),), ((1,),), ((-1,),), ((False,),), ((None,),), ((2,),),
+    ((0, 1),), ((0,), (0,)), ((0, 1), (-1, 0)), ((0, 2), (2, 0)), ((0, 1), (1, 1)), ((1, 0), (0, 0)),
+    ((0, True), (1, 0)), ((0, 1), (True, 0)), ((0, True), (True, 0)), ((False, 1), (1, 0)), [(0, 1), (1, 0)],
+    ((0, 1), [1, 0]), ((0, 1, 0), (1, 0, 0)), ((0, 1), (1, 0), (0, 0)), ((0, 1), (1,)), ((0, "1"), ("1", 0)),
+    ((0, 10**89), (10**89, 0)), nested(40), nested(40, 0, lambda inside: [inside]), tuple(range(3000)),
+    tuple((0,) * 11 for _ in range(11)), tuple((0,) * 10 for _ in range(11)), ((0,) * 3000,),
+    ((0, -2), (-2, 0)), ((0, 1, -1), (1, 0, 1), (-1, -1, 0)), ((0, (1,)), ((1,), 0)),
+]
+WRONG_TIES = [
+    None, True, 0, 1, "", "01", (), (0,), (0, 1, 2), [0, 1], (1, 0), (2, 1), (0, 0), (2, 2), (0, 3), (1, 3), (0, 4),
+    (3, 4), (-1, 0), (-2, 1), (-4, -3), (True, 2), (False, 1), (0, True), (0, None), ("0", "1"), ((0,), (1,)),
+    ((0, 1),), (0, 10**89), nested(40), (0, [1]),
+]
+WRONG_PLACES = [None, True, False, -1, -4, 4, 10, 10**89, -(10**89), "", "0", (), (0,), [0], nested(40)]
+WRONG_LOTS = [
+    None, True, 0, "", "01", [], [0], [0, 1], (1, 0), (0, 0), (0, 1, 1), (4,), (0, 4), (-1,), (-1, 0), (True,),
+    (False, 2), (0, True), (None,), ("0",), ((),), ((0,),), (0, 1, 2, 3, 4), (10**89,), nested(40), ([0],), (0, None),
+]
+WRONG_SIGNS_OF_TIES = [None, True, False, 2, -2, 10**89, "", "1", "+", (), (1,), [1], nested(40)]
+WRONG_ROWS = [
+    None, True, 0, "", "0123", [0, 1, 2, 3], (), (0,), (0, 1, 2), (0, 1, 2, 2), (0, 1, 2, 4), (1, 2, 3, 4),
+    (0, 1, 2, 3, 4), (0, 1, 2, 3, 3), (-1, 0, 1, 2), (0, True, 2, 3), (False, 1, 2, 3), (0, 1, 2, None),
+    (0, 1, 2, "3"), (0, 1, 2, (3,)), (0, 1, 2, [3]), nested(40), tuple(range(3000)),
+]
+WRONG_CLOSED = [
+    None, True, 0, "", "012", [0, 1, 2], (), (0,), (0, 1), (0, 1, 3), (0, 1, 2, 3), (0, 1, 2, 0), (0, 0, 1, 2),
+    (0, 1, 0, 2), (0, 1, 4), (-4, 1, 2), (0, 1, -2), (0, True, 2), (False, 1, 2), (0, 1, "2"), (0, 1, None),
+    (0, 1, (2,)), (0, 1, [2]), (0, 1, 10**89), nested(40), tuple(range(3000)),
+]
+WRONG_RINGS_OF_WEB = WRONG_CLOSED + [(0, 2, 1), (1, 2, 0), (2, 0, 1), (1, 0, 2), (2, 1, 0)]
+WRONG_SEVERAL = [
+    None, True, 0, "", (0, 1, 2), [(0, 1, 2)], ([0, 1, 2],), ((0, 2, 1),), ((1, 2, 3), (0, 1)), ((0, 1, True),),
+    ((0, 1, 2), None), ((0, 1, 2), ()), ((0, 1, 4),), (((0, 1, 2),),), ((0, 1, 2),) * 101, ("012",), nested(40),
+    ((False, 1, 2),), ((0, 1, 2), (3, 2, 1)), ((),),
+]
+WRONG_COUNTS = [None, True, False, -1, -(10**89), "", "0", (), (0,), [0], nested(40)]
+
+
+def wrong_signs(many):
+    """What is no tuple of so many signs."""
+    return [
+        None, True, 1, "", "+" * many, [1] * many, (1,) * (many + 1), (1,) * (many - 1) if many else (-1,),
+        (1,) * (many - 1) + (0,), (2,) + (1,) * (many - 1), (True,) + (1,) * (many - 1), (1,) * (many - 1) + (None,),
+        ("1",) + (1,) * (many - 1), ((1,),) + (1,) * (many - 1), ([1],) + (1,) * (many - 1), nested(40), (1,) * 3000,
+        (1,) * (many - 1) + (False,), ((1,) * many,),
+    ]
+
+
+# What stands for a parameter: its name, a good value, the error of wrong ones, wrong ones.
+ANY = (0, 1, 2)
+PLACE = ("place", 0, errors.InvalidPlace, WRONG_PLACES)
+OTHER_PLACE = ("other_place", 3, errors.InvalidPlace, WRONG_PLACES + [0])
+TIE = ("tie", (0, 1), errors.InvalidTie, WRONG_TIES)
+LOT = ("lot", (0, 2), errors.InvalidLot, WRONG_LOTS)
+SIGN = ("sign", 1, errors.InvalidSign, WRONG_SIGNS_OF_TIES + [0])
+SIGN_OR_NONE = ("sign", -1, errors.InvalidSign, WRONG_SIGNS_OF_TIES)
+RING = ("ring", (0, 1, 2), errors.InvalidRing, WRONG_RINGS_OF_WEB)
+NUMBER = ("number", 1, errors.InvalidCount, WRONG_COUNTS)
+VALUE = ("value", ANY, None, [])
+SEVERAL = ("rings", RINGS, errors.InvalidRings, WRONG_SEVERAL)
+FULL_RING = ("ring", (0, 1, 2), errors.InvalidRing, [one for one in WRONG_RINGS_OF_WEB if one not in
+                                                     ((0, 1, 3), (0, 1, 2, 3))])
+TOLD = ("signs", (1, -1, 1), errors.InvalidSigns, wrong_signs(3))
+
+
+def web(value=WEB, name="web"):
+    return (name, value, errors.InvalidWeb, WRONG_WEBS)
+
+
+def other(value=LIKE):
+    return web(value, "other_web")
+
+
+CALLS = [
+    (webs.is_web, [VALUE]),
+    (webs.ties, [web()]),
+    (webs.foes, [web()]),
+    (webs.neighbours, [web(), PLACE, SIGN_OR_NONE]),
+    (webs.turned, [web(), LOT]),
+    (webs.changed, [web(), TIE]),
+    (webs.opposite, [web()]),
+    (webs.with_tie, [web(), PLACE, OTHER_PLACE, SIGN]),
+    (webs.less_tie, [web(), TIE]),
+    (webs.pieces, [web(), LOT]),
+    (webs.inner, [web(), ("lot", (0, 2), errors.InvalidLot, WRONG_LOTS + [()])]),
+    (webs.renamed, [web(), ("row", (2, 0, 3, 1), errors.InvalidRow, WRONG_ROWS)]),
+    (webs.beside, [web(), other()]),
+    (webs.first_forest, [web()]),
+    (webs.is_ring, [web(), VALUE]),
+    (webs.ring_told, [web(), ("row", (2, 0, 1), errors.InvalidRow, WRONG_CLOSED)]),
+    (webs.ring_ties, [web(), RING]),
+    (webs.ring_sign, [web(), RING]),
+    (webs.rings, [web()]),
+    (webs.bad_rings, [web()]),
+    (webs.web_text, [web()]),
+    (camps.is_balanced, [web()]),
+    (camps.is_camp, [web(), LOT]),
+    (camps.camp, [web(CALM)]),
+    (camps.camps, [web(CALM)]),
+    (camps.bad_ring, [web()]),
+    (camps.is_bad_ring, [web(), VALUE]),
+    (camps.balanced_pieces, [web()]),
+    (camps.by_camp, [web(), LOT]),
+    (alike.are_alike, [web(), other()]),
+    (alike.product, [web(), other()]),
+    (alike.turning_between, [web(), other()]),
+    (alike.turnings_between, [web(), other()]),
+    (alike.unlike_ring, [web(), other(CALM)]),
+    (alike.is_unlike_ring, [web(), other(CALM), VALUE]),
+    (alike.form, [web()]),
+    (alike.form_turning, [web()]),
+    (alike.kin_row, [web(), other()]),
+    (alike.kin_count, [web()]),
+    (round_signs.round_signs, [web()]),
+    (round_signs.web_by_signs, [web(FULL), ("signs", (1,) * 7, errors.InvalidSigns, wrong_signs(7))]),
+    (round_signs.is_theta, [web(FULL), ("value", ((0, 1, 2), (0, 1, 3), (0, 2, 1, 3)), None, [])]),
+    (round_signs.own_rounds, [web()]),
+    (round_signs.web_by_own, [web(FULL), ("signs", (1, -1, 1), errors.InvalidSigns, wrong_signs(3))]),
+    (round_signs.ring_sum, [web(), RING]),
+    (round_signs.sum_row, [web(FULL), SEVERAL, FULL_RING]),
+    (round_signs.is_sum_row, [web(FULL), SEVERAL, FULL_RING, ("value", (2,), None, [])]),
+    (round_signs.count_with, [web(FULL), SEVERAL, TOLD]),
+    (round_signs.class_with, [web(FULL), SEVERAL, TOLD]),
+    (round_signs.clash, [web(FULL), SEVERAL, ("signs", (1, -1, -1), errors.InvalidSigns, wrong_signs(3))]),
+    (round_signs.is_clash, [web(FULL), SEVERAL, ("signs", (1, -1, -1), errors.InvalidSigns, wrong_signs(3)),
+                            ("value", (0, 2), None, [])]),
+    (classes.class_count, [web()]),
+    (classes.class_size, [web()]),
+    (classes.class_number, [web()]),
+    (classes.nth_class, [web(), NUMBER]),
+    (classes.member_number, [web()]),
+    (classes.nth_member, [web(), NUMBER]),
+    (classes.foe_counts, [web()]),
+    (classes.even_members, [web()]),
+    (classes.changed_to, [web(), other(CALM)]),
+    (classes.class_gap, [web(), other(CALM)]),
+    (class_numbers.least_kin, [web()]),
+    (class_numbers.kind_count, [web()]),
+]
+DEFAULTS = {("neighbours", "sign"): 0, ("pieces", "lot"): ()}
+TEXTS = (webs.web_told, "text")
+
+
+def parameters_of(function):
+    (found,) = [parameters for one, parameters in CALLS if one is function]
+    return found
+
+
+def good_call(function):
+    return [good for _, good, _, _ in parameters_of(function)]
+
+
+def many_values():
+    return OTHERS + [WEB, CALM, LIKE, FULL, RINGS, empty_web(1), empty_web(10), circle_web(5, True)]

@@ -1,0 +1,158 @@
+"""What the document says, counted anew from its words, however slowly."""
+
+from itertools import combinations, permutations
+
+from tests.samples import lots_of, pairs_tied
+
+
+def turned_anew(web, lot):
+    many = len(web)
+    return tuple(
+        tuple(-web[x][y] if (x in lot) != (y in lot) else web[x][y] for y in range(many)) for x in range(many)
+    )
+
+
+def joined_anew(web, lot, ties=None):
+    """Whether one comes from each place of the lot to each other one along ties between its places."""
+    if not lot:
+        return False
+    ties = pairs_tied(web) if ties is None else ties
+    reached = {lot[0]}
+    for _ in lot:
+        for x, y in ties:
+            if x in lot and y in lot and (x in reached or y in reached):
+                reached |= {x, y}
+    return reached == set(lot)
+
+
+def pieces_anew(web, lot=()):
+    """The joined lots without the lot that no other one contains."""
+    left = [place for place in range(len(web)) if place not in lot]
+    joined = []
+    for size in range(len(left), 0, -1):
+        for some in combinations(left, size):
+            if not any(set(some) <= set(more) for more in joined) and joined_anew(web, some):
+                joined.append(some)
+    return sorted(joined)
+
+
+def rounds_anew(web):
+    """All rounds, from all tuples of places."""
+    told = []
+    for size in range(3, len(web) + 1):
+        for row in permutations(range(len(web)), size):
+            if row[0] == min(row) and row[1] < row[-1]:
+                if all(web[row[at - 1]][row[at]] for at in range(size)):
+                    told.append(row)
+    return told
+
+
+def ties_anew(ring):
+    return sorted(tuple(sorted(pair)) for pair in zip(ring, ring[1:] + ring[:1]))
+
+
+def sign_anew(web, ring):
+    return (-1) ** sum(web[x][y] == -1 for x, y in ties_anew(ring))
+
+
+def camps_anew(web):
+    """All camps, from all lots."""
+    foes = {pair for pair in pairs_tied(web) if web[pair[0]][pair[1]] == -1}
+    return [
+        lot for lot in lots_of(len(web))
+        if foes == {(x, y) for x, y in pairs_tied(web) if (x in lot) != (y in lot)}
+    ]
+
+
+def forest_anew(web):
+    taken = []
+    for x, y in pairs_tied(web):
+        reached = {x}
+        for _ in web:
+            for pair in taken:
+                if reached & set(pair):
+                    reached |= set(pair)
+        if y not in reached:
+            taken.append((x, y))
+    return taken
+
+
+def outer_anew(web):
+    forest = forest_anew(web)
+    return [pair for pair in pairs_tied(web) if pair not in forest]
+
+
+def same_ties_anew(web, other):
+    return len(web) == len(other) and pairs_tied(web) == pairs_tied(other)
+
+
+def leading_anew(web, other):
+    """All lots that lead from the one to the other, in lot order."""
+    return [lot for lot in lots_of(len(web)) if turned_anew(web, lot) == other]
+
+
+def class_anew(web):
+    """All webs alike with this one, ascending."""
+    return sorted({turned_anew(web, lot) for lot in lots_of(len(web))})
+
+
+def form_anew(web):
+    """The member of the class whose first forest has friends alone."""
+    forest = forest_anew(web)
+    (found,) = [member for member in class_anew(web) if all(member[x][y] == 1 for x, y in forest)]
+    return found
+
+
+def number_anew(web):
+    form = form_anew(web)
+    return int("0" + "".join("1" if form[x][y] == -1 else "0" for x, y in outer_anew(web)), 2)
+
+
+def renamed_anew(web, row):
+    many = len(web)
+    back = {name: place for place, name in enumerate(row)}
+    return tuple(tuple(web[back[x]][back[y]] for y in range(many)) for x in range(many))
+
+
+def odd_ties(several):
+    """The ties that are in an odd number of these rounds."""
+    odd = set()
+    for ring in several:
+        odd ^= set(ties_anew(ring))
+    return odd
+
+
+def ways_anew(web, start, goal):
+    """All ways from the one place to the other, no place twice."""
+    others = [place for place in range(len(web)) if place not in (start, goal)]
+    told = []
+    for size in range(len(others) + 1):
+        for row in permutations(others, size):
+            way = (start,) + row + (goal,)
+            if all(web[x][y] for x, y in zip(way, way[1:])):
+                told.append(way)
+    return told
+
+
+def thetas_anew(web):
+    """All ascending tuples of three rounds that are a theta."""
+    told = set()
+    for start, goal in combinations(range(len(web)), 2):
+        ways = ways_anew(web, start, goal)
+        for three in combinations(ways, 3):
+            insides = [set(way[1:-1]) for way in three]
+            if any(a & b for a, b in combinations(insides, 2)):
+                continue
+            told.add(tuple(sorted(ring_anew(a + b[-2:0:-1]) for a, b in combinations(three, 2))))
+    return told
+
+
+def ring_anew(row):
+    """The told one of all ways to write a round."""
+    rows = [row[at:] + row[:at] for at in range(len(row))]
+    return min(rows + [one[::-1] for one in rows])
+
+
+def exactly(value, others):
+    """Whether the value is one of the others, of the same kinds throughout."""
+    return repr(value) in {repr(other) for other in others}

@@ -1,0 +1,100 @@
+"""The examples of the document."""
+
+import unittest
+
+from signrounds.alike import (
+    are_alike, form, form_turning, kin_count, product, turning_between, turnings_between, unlike_ring,
+)
+from signrounds.camps import bad_ring, balanced_pieces, by_camp, camp, camps, is_bad_ring, is_balanced, is_camp
+from signrounds.class_numbers import kind_count, least_kin
+from signrounds.classes import (
+    changed_to, class_count, class_gap, class_number, class_size, even_members, foe_counts, member_number, nth_class,
+    nth_member,
+)
+from signrounds.errors import InvalidText, NotAlike, NotBalanced, NotTheta, Refused
+from signrounds.round_signs import (
+    clash, class_with, count_with, is_clash, is_sum_row, is_theta, own_rounds, ring_sum, round_signs, sum_row,
+    web_by_own, web_by_signs,
+)
+from signrounds.webs import (
+    bad_rings, changed, first_forest, foes, neighbours, opposite, ring_sign, ring_ties, ring_told, rings, ties, turned,
+    web_text, web_told, with_tie,
+)
+
+tri = web_told(".-+/-.+/++.")
+four = web_told(".---/-.--/--.-/---.")
+path = web_told(".-../-.+./.+.-/..-.")
+friends, flip = web_told(".++/+.+/++."), web_told(".--/-.+/-+.")
+all4 = web_told(".+++/+.++/++.+/+++.")
+
+
+class Examples(unittest.TestCase):
+    def raises(self, error, field, value, function, *values):
+        with self.assertRaises(error) as caught:
+            function(*values)
+        self.assertEqual(getattr(caught.exception, field), value)
+
+    def test_webs(self):
+        self.assertEqual(tri, ((0, -1, 1), (-1, 0, 1), (1, 1, 0)))
+        told = [ties(tri), foes(tri), rings(tri), ring_sign(tri, (0, 1, 2)), neighbours(tri, 0), neighbours(tri, 0, 1)]
+        self.assertEqual(told, [[(0, 1), (0, 2), (1, 2)], [(0, 1)], [(0, 1, 2)], -1, (1, 2), (2,)])
+        told = [web_text(turned(tri, (1,))), web_text(opposite(tri)), web_text(changed(tri, (0, 1)))]
+        self.assertEqual(told, [".++/+.-/+-.", ".+-/+.-/--.", ".++/+.+/++."])
+        told = [len(rings(four)), len(bad_rings(four)), first_forest(four), ring_told(four, (3, 1, 2)),
+                ring_ties(four, (0, 1, 3, 2))]
+        self.assertEqual(told, [7, 4, [(0, 1), (0, 2), (0, 3)], (1, 2, 3), ((0, 1), (0, 2), (1, 3), (2, 3))])
+
+    def test_errors_of_webs(self):
+        self.raises(InvalidText, "index", 3, web_told, ".-/+")
+        self.raises(InvalidText, "index", 5, web_told, ".-+/-+")
+        self.raises(InvalidText, "index", 2, web_told, ".-")
+        with self.assertRaises(Refused):
+            with_tie(tri, 0, 1, 1)
+
+    def test_camps(self):
+        told = [is_balanced(path), camp(path), camps(path), bad_ring(path), balanced_pieces(tri)]
+        self.assertEqual(told, [True, (0, 3), [(0, 3), (1, 2)], None, []])
+        told = [bad_ring(tri), is_bad_ring(four, (0, 1, 2, 3)), is_bad_ring(four, (1, 2, 3)), is_camp(path, (1, 2)),
+                is_camp(path, ())]
+        self.assertEqual(told, [(0, 1, 2), False, True, True, False])
+        self.assertEqual([web_text(by_camp(four, (0, 1))), camps(((0,),))], [".+--/+.--/--.+/--+.", [(), (0,)]])
+        self.raises(NotBalanced, "ring", (0, 1, 2), camp, tri)
+
+    def test_alike(self):
+        told = [are_alike(friends, flip), are_alike(friends, tri), turning_between(friends, flip),
+                turnings_between(friends, flip)]
+        self.assertEqual(told, [True, False, (0,), [(0,), (1, 2)]])
+        told = [unlike_ring(friends, tri), web_text(product(flip, tri)), web_text(form(tri)), form_turning(tri),
+                kin_count(tri)]
+        self.assertEqual(told, [(0, 1, 2), ".+-/+.+/-+.", ".++/+.-/+-.", (1,), 6])
+        self.raises(NotAlike, "ring", (0, 1, 2), turning_between, friends, tri)
+
+    def test_round_signs(self):
+        told = [own_rounds(all4), ring_sum(all4, (1, 2, 3)), round_signs(tri)]
+        own = [(0, 1, 2), (0, 1, 3), (0, 2, 3)]
+        self.assertEqual(told, [own, own, (-1,)])
+        self.assertIs(is_theta(all4, ((0, 1, 2), (0, 1, 3), (0, 2, 1, 3))), True)
+        self.assertIs(is_theta(all4, ((0, 1, 2), (0, 1, 3), (0, 2, 3))), False)
+        told = [web_text(web_by_own(all4, (1, 1, -1))), web_text(class_with(all4, ((1, 2, 3),), (-1,))),
+                count_with(all4, ((1, 2, 3),), (-1,))]
+        self.assertEqual(told, [".+++/+.++/++.-/++-.", ".+++/+.++/++.-/++-.", 4])
+        self.assertEqual(sum_row(all4, ((0, 1, 2), (0, 1, 3)), (0, 2, 1, 3)), (0, 1))
+        self.assertTrue(is_sum_row(all4, ((0, 1, 2), (0, 1, 3)), (0, 2, 1, 3), (0, 1)))
+        self.assertEqual(clash(all4, ((0, 1, 2), (0, 1, 3), (0, 2, 1, 3)), (-1, 1, 1)), (0, 1, 2))
+        self.assertTrue(is_clash(all4, ((0, 1, 2), (0, 1, 3), (0, 2, 1, 3)), (-1, 1, 1), (0, 1, 2)))
+        with self.assertRaises(NotTheta):
+            web_by_signs(all4, (-1, 1, 1, 1, 1, 1, 1))
+
+    def test_classes(self):
+        told = [class_count(all4), class_size(all4), class_number(tri), nth_class(tri, 0) == friends, nth_class(tri, 2)]
+        self.assertEqual(told, [8, 8, 1, True, None])
+        told = [nth_member(friends, 0) == flip, member_number(friends), foe_counts(tri), foe_counts(friends)]
+        self.assertEqual(told, [True, 3, (0, 3, 0, 1), (1, 0, 3, 0)])
+        told = [[web_text(one) for one in even_members(tri)], changed_to(friends, tri), class_gap(friends, flip)]
+        self.assertEqual(told, [[".--/-.-/--."], ((0, 1),), 0])
+        told = [web_text(least_kin(web_told(".+++/+.-+/+-.+/+++."))), kind_count(all4), kind_count(tri)]
+        self.assertEqual(told, [".+++/+.++/++.-/++-.", 3, 2])
+
+
+if __name__ == "__main__":
+    unittest.main()

@@ -1,0 +1,166 @@
+"""Names and sequence of parameters, their errors, and what calls leave as it is."""
+
+import copy
+import importlib
+import inspect
+import unittest
+
+from signrounds import alike, errors, round_signs, webs
+from tests.calls import CALLS, DEFAULTS, WEB, good_call, many_values
+from tests.samples import full_web
+
+INTERFACE = {
+    "webs": """is_web(value) ties(web) foes(web) neighbours(web,place,sign=0) turned(web,lot) changed(web,tie)
+        opposite(web) with_tie(web,place,other_place,sign) less_tie(web,tie) pieces(web,lot=()) inner(web,lot)
+        renamed(web,row) beside(web,other_web) first_forest(web) is_ring(web,value) ring_told(web,row)
+        ring_ties(web,ring) ring_sign(web,ring) rings(web) bad_rings(web) web_text(web) web_told(text)""",
+    "camps": """is_balanced(web) is_camp(web,lot) camp(web) camps(web) bad_ring(web) is_bad_ring(web,value)
+        balanced_pieces(web) by_camp(web,lot)""",
+    "alike": """are_alike(web,other_web) product(web,other_web) turning_between(web,other_web)
+        turnings_between(web,other_web) unlike_ring(web,other_web) is_unlike_ring(web,other_web,value) form(web)
+        form_turning(web) kin_row(web,other_web) kin_count(web)""",
+    "round_signs": """round_signs(web) web_by_signs(web,signs) is_theta(web,value) own_rounds(web)
+        web_by_own(web,signs) ring_sum(web,ring) sum_row(web,rings,ring) is_sum_row(web,rings,ring,value)
+        count_with(web,rings,signs) class_with(web,rings,signs) clash(web,rings,signs)
+        is_clash(web,rings,signs,value)""",
+    "classes": """class_count(web) class_size(web) class_number(web) nth_class(web,number) member_number(web)
+        nth_member(web,number) foe_counts(web) even_members(web) changed_to(web,other_web)
+        class_gap(web,other_web)""",
+    "class_numbers": "least_kin(web) kind_count(web)",
+}
+
+
+def outcome(function, *values, **named):
+    """What a call tells, or the error with its fields, told with the kinds."""
+    try:
+        return repr(function(*values, **named))
+    except errors.SignError as error:
+        return (type(error).__name__, repr(vars(error)))
+
+
+def lists_in(value):
+    """All lists in a value."""
+    if isinstance(value, list):
+        yield value
+    if isinstance(value, (list, tuple)):
+        for part in value:
+            yield from lists_in(part)
+
+
+class Interface(unittest.TestCase):
+    def test_each_function_stands_in_its_file_with_its_parameters(self):
+        for name, told in INTERFACE.items():
+            module = importlib.import_module("signrounds." + name)
+            for line in told.split():
+                function = getattr(module, line.split("(")[0])
+                self.assertEqual(function.__module__, "signrounds." + name)
+                shape = str(inspect.signature(function)).replace(" ", "")
+                self.assertEqual(function.__name__ + shape, line)
+
+    def test_each_function_is_called_here(self):
+        told = [line.split("(")[0] for lines in INTERFACE.values() for line in lines.split()]
+        self.assertEqual(sorted(told), sorted([function.__name__ for function, _ in CALLS] + ["web_told"]))
+
+
+class Calls(unittest.TestCase):
+    def test_by_position_and_by_name(self):
+        for function, parameters in CALLS:
+            names = [parameter[0] for parameter in parameters]
+            values = good_call(function)
+            told = outcome(function, *values)
+            self.assertNotIsInstance(told, tuple, function.__name__)
+            self.assertEqual(outcome(function, **dict(zip(names, values))), told)
+            self.assertEqual(outcome(function, **dict(zip(names[::-1], values[::-1]))), told)
+            self.assertEqual(outcome(function, values[0], **dict(zip(names[1:], values[1:]))), told)
+        self.assertEqual(webs.web_told(text=webs.web_text(WEB)), WEB)
+
+    def test_defaults(self):
+        for function, parameters in CALLS:
+            values = good_call(function)
+            if (function.__name__, parameters[-1][0]) in DEFAULTS:
+                values[-1] = DEFAULTS[(function.__name__, parameters[-1][0])]
+                self.assertEqual(outcome(function, *values[:-1]), outcome(function, *values))
+
+    def test_wrong_values_of_each_parameter_whatever_follows(self):
+        for function, parameters in CALLS:
+            for at, (name, _, error, wrong) in enumerate(parameters):
+                before = good_call(function)[:at]
+                for value in wrong:
+                    behind = [good for _, good, _, _ in parameters[at + 1:]]
+                    spoilt = [bad[0] if bad else None for _, _, _, bad in parameters[at + 1:]]
+                    for others in (behind, spoilt):
+                        with self.assertRaises(error, msg=(function.__name__, name, value)) as caught:
+                            function(*before, value, *others)
+                        self.assertIs(type(caught.exception), error)
+
+    def test_any_value_where_a_web_is_asked_for(self):
+        for function, parameters in CALLS:
+            if parameters[0][0] == "web":
+                for value in many_values():
+                    if not webs.is_web(value):
+                        with self.assertRaises(errors.InvalidWeb):
+                            function(value, *good_call(function)[1:])
+
+    def test_any_value_for_each_parameter_ends_in_a_result_or_a_sign_error(self):
+        for function, parameters in CALLS:
+            for at, (name, _, error, _) in enumerate(parameters):
+                for value in many_values():
+                    values = good_call(function)
+                    values[at] = value
+                    kept = copy.deepcopy(values)
+                    told = outcome(function, *values)
+                    self.assertEqual(repr(values), repr(kept))
+                    if name == "value":
+                        self.assertIn(told, ("True", "False"))
+
+    def test_arguments_stay_and_lists_are_new(self):
+        for function, _ in CALLS:
+            values = good_call(function)
+            kept = copy.deepcopy(values)
+            told = function(*values)
+            for one in lists_in(told):
+                one.append("more")
+                one.reverse()
+            self.assertEqual(repr(values), repr(kept))
+            again = function(*values)
+            self.assertEqual(repr(again), outcome(function, *kept))
+            self.assertNotIn("more", repr(again))
+
+    def test_errors_of_a_point_come_behind_those_of_all_parameters(self):
+        great, small = full_web(8, 1), full_web(3, -1)
+        for error, function, *values in (
+            (errors.InvalidSign, webs.with_tie, WEB, 0, 1, 2),
+            (errors.InvalidPlace, webs.with_tie, WEB, 0, 0, 2),
+            (errors.Refused, webs.with_tie, WEB, 0, 1, 1),
+            (errors.InvalidWeb, webs.beside, great, (great,)),
+            (errors.TooMany, webs.beside, great, small),
+            (errors.InvalidWeb, alike.kin_row, great, None),
+            (errors.InvalidWeb, alike.kin_row, None, great),
+            (errors.TooMany, alike.kin_row, small, great),
+            (errors.InvalidWeb, alike.product, great, ()),
+            (errors.NotAlike, alike.product, great, small),
+            (errors.TooMany, round_signs.web_by_signs, great, None),
+            (errors.InvalidSigns, round_signs.web_by_signs, small, (1, 1)),
+            (errors.InvalidRings, round_signs.count_with, small, ((0, 2, 1),), (1, 1)),
+            (errors.InvalidSigns, round_signs.count_with, small, ((0, 1, 2),), (1, 1)),
+            (errors.InvalidRings, round_signs.sum_row, small, ((0, 2, 1),), (0, 2, 1)),
+            (errors.InvalidRing, round_signs.sum_row, small, ((0, 1, 2),), (0, 2, 1)),
+        ):
+            with self.assertRaises(error, msg=function.__name__):
+                function(*values)
+
+    def test_a_hundred_and_one_rounds(self):
+        ring = ((0, 1, 2),)
+        self.assertEqual(round_signs.count_with(WEB, ring * 100, (1,) * 100), 1)
+        with self.assertRaises(errors.InvalidRings):
+            round_signs.count_with(WEB, ring * 101, (1,) * 101)
+
+    def test_text(self):
+        for value in (None, True, 0, (), [], (".",), [".", "/"], ((0,),), b"."):
+            with self.assertRaises(errors.InvalidText) as caught:
+                webs.web_told(value)
+            self.assertEqual(caught.exception.index, 0)
+
+
+if __name__ == "__main__":
+    unittest.main()

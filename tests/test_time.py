@@ -1,0 +1,89 @@
+"""Calls with 10 places end within some seconds, whatever the ties."""
+
+import time
+import unittest
+
+from signrounds import alike, camps, class_numbers, classes, round_signs, webs
+from signrounds.errors import SignError
+from tests.calls import CALLS
+from tests.counts import turned_anew
+from tests.samples import Draw, circle_web, drawn_webs, empty_web, full_web
+
+SECONDS = 5
+
+
+def webs_of(many):
+    draw = Draw(111)
+    told = [full_web(many, 1), full_web(many, -1), empty_web(many), circle_web(many, True), circle_web(many, False)]
+    return told + [draw.resigned(full_web(many, 1)), *drawn_webs(111, 4, many, many)]
+
+
+class Times(unittest.TestCase):
+    def quick(self, function, *values):
+        begin = time.perf_counter()
+        try:
+            return function(*values)
+        except SignError:
+            return None
+        finally:
+            self.assertLess(time.perf_counter() - begin, SECONDS, function.__name__)
+
+    def test_of_one_web_and_of_two(self):
+        draw = Draw(112)
+        for many in (5, 6, 7, 10):
+            for web in webs_of(many):
+                likes = [turned_anew(web, draw.lot(many)), draw.resigned(web), empty_web(many)]
+                for function, parameters in CALLS:
+                    names = [parameter[0] for parameter in parameters]
+                    if names == ["web"]:
+                        self.quick(function, web)
+                    if names == ["web", "other_web"]:
+                        for other in likes:
+                            self.quick(function, web, other)
+
+    def test_of_ten_places_with_more(self):
+        draw = Draw(113)
+        everywhere = tuple(range(10))
+        for web in webs_of(10):
+            own = tuple(round_signs.own_rounds(web))
+            rings = tuple(draw.one(own) for _ in range(100)) if own else ()
+            signs = tuple(draw.one((1, -1)) for _ in rings)
+            for function in (round_signs.count_with, round_signs.class_with, round_signs.clash):
+                self.quick(function, web, rings, signs)
+            for value in (tuple(range(100)), everywhere, (0,) * 3000):
+                self.quick(round_signs.is_clash, web, rings, signs, value)
+                self.quick(webs.is_ring, web, value)
+                self.quick(camps.is_bad_ring, web, value)
+                self.quick(alike.is_unlike_ring, web, web, value)
+                self.quick(round_signs.is_theta, web, (value, value, value))
+            for ring in own[-2:]:
+                self.quick(round_signs.sum_row, web, rings, ring)
+                self.quick(round_signs.is_sum_row, web, rings, ring, tuple(range(100)))
+                self.quick(round_signs.ring_sum, web, ring)
+            self.quick(round_signs.web_by_own, web, (-1,) * len(own))
+            for number in (0, 1, 511, 512, 10**89):
+                self.quick(classes.nth_class, web, number)
+                self.quick(classes.nth_member, web, number)
+            for lot in ((), everywhere, (0, 5)):
+                self.quick(webs.pieces, web, lot)
+                self.quick(camps.by_camp, web, lot)
+                self.quick(camps.is_camp, web, lot)
+
+    def test_signs_of_all_rounds_of_seven_places(self):
+        draw = Draw(114)
+        for web in webs_of(7):
+            good = round_signs.round_signs(web)
+            rows = [good, tuple(-sign for sign in good), tuple(draw.one((1, -1)) for _ in good)]
+            rows += [good[:at] + (-good[at],) + good[at + 1:] for at in (0, len(good) // 2, len(good) - 1) if good]
+            for signs in rows:
+                self.quick(round_signs.web_by_signs, web, signs)
+
+    def test_classes_of_few_places(self):
+        for many in (5, 6):
+            for web in webs_of(many):
+                self.quick(class_numbers.least_kin, web)
+                self.quick(class_numbers.kind_count, web)
+
+
+if __name__ == "__main__":
+    unittest.main()
