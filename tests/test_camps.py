@@ -112,7 +112,7 @@ class Facts(unittest.TestCase):
                     halves = {tuple(place for place in lot if place in piece) for lot in told}
                     self.assertEqual(len(halves), 2)
                     self.assertEqual(sorted(sum(halves, ())), list(piece))
-        for web in list(small_webs(3)) + list(balanced_webs(26, 5, 7)):
+        for web in list(small_webs()) + list(balanced_webs(26, 5, 7)):
             for lot in lots_of(len(web)):
                 has_foe = any(-1 in row for row in turned_anew(web, lot))
                 self.assertIs(is_camp(web, lot), not has_foe)

@@ -31,10 +31,11 @@ class Facts(unittest.TestCase):
                 self.assertEqual(turned(turned(web, lot), more), turned(web, just_one))
 
     def test_a2_all_lots(self):
-        for web in small_webs(3):
+        for web in small_webs():
             for lot in lots_of(len(web)):
                 crossing = any((x in lot) != (y in lot) for x, y in ties(web))
                 self.assertIs(turned(web, lot) == web, not crossing)
+                self.assertEqual(turned(turned(web, lot), lot), web)
 
     def test_a3_turned_and_opposite_rounds(self):
         draw = Draw(33)
