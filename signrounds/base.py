@@ -24,6 +24,14 @@ def with_sign(web, x, y, sign):
     return web_of_rows(rows)
 
 
+def without_ties(web, several):
+    """The web without these ties."""
+    rows = [list(row) for row in web]
+    for x, y in several:
+        rows[x][y] = rows[y][x] = 0
+    return web_of_rows(rows)
+
+
 def turned_by(web, sides):
     """The web turned at the places whose side, 1 or -1, is -1."""
     return web_of_rows([[sign * side * other for sign, other in zip(row, sides)] for row, side in zip(web, sides)])

@@ -1,9 +1,9 @@
 """The errors of parameters: each function raises one unless its last argument is what it must be."""
 
 from signrounds.errors import InvalidCount, InvalidLot, InvalidPlace, InvalidRing, InvalidRings
-from signrounds.errors import InvalidRow, InvalidSign, InvalidSigns, InvalidTie, InvalidWeb, TooMany
+from signrounds.errors import InvalidRow, InvalidSign, InvalidSigns, InvalidTie, InvalidTies, InvalidWeb, TooMany
 from signrounds.kinds import is_closed_row_of, is_lot_of, is_naming_of, is_place_of, is_round_of
-from signrounds.kinds import is_round_row_of, is_sign, is_sign_row, is_signed_web, is_tie_of, is_whole
+from signrounds.kinds import is_round_row_of, is_sign, is_sign_row, is_signed_web, is_tie_of, is_tie_set_of, is_whole
 
 
 def need_web(web):
@@ -30,6 +30,11 @@ def need_small_web(web, most):
 def need_tie(web, tie):
     if not is_tie_of(web, tie):
         raise InvalidTie("this is no tie of the web")
+
+
+def need_ties(web, ties):
+    if not is_tie_set_of(web, ties):
+        raise InvalidTies("this is no ascending tuple of ties of the web")
 
 
 def need_place(web, place):

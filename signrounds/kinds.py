@@ -66,6 +66,11 @@ def is_tie_of(web, value):
     return is_lot_of(web, value) and len(value) == 2 and web[value[0]][value[1]] != 0
 
 
+def is_tie_set_of(web, value):
+    """Whether it is an ascending tuple of ties of the web, perhaps ()."""
+    return isinstance(value, tuple) and all([is_tie_of(web, one) for one in value]) and is_ascending(value)
+
+
 def is_naming_of(web, value):
     """Whether it is a tuple of just the places of the web, each once."""
     return is_whole_row(value) and sorted(value) == list(range(len(web)))

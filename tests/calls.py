@@ -1,6 +1,6 @@
 """Every function of the interface with one good call, and wrong values of each parameter."""
 
-from signrounds import alike, camps, class_numbers, classes, errors, round_signs, webs
+from signrounds import alike, camps, class_numbers, classes, errors, lumps, rests, round_signs, trouble, webs
 from tests.samples import OTHERS, circle_web, empty_web, full_web, nested
 
 # Four places, of which just 0 and 3, 1 and 3 are not tied; one round, a bad one.
@@ -24,6 +24,12 @@ WRONG_TIES = [
     None, True, 0, 1, "", "01", (), (0,), (0, 1, 2), [0, 1], (1, 0), (2, 1), (0, 0), (2, 2), (0, 3), (1, 3), (0, 4),
     (3, 4), (-1, 0), (-2, 1), (-4, -3), (True, 2), (False, 1), (0, True), (0, None), ("0", "1"), ((0,), (1,)),
     ((0, 1),), (0, 10**89), nested(40), (0, [1]),
+]
+WRONG_TIE_SETS = [
+    None, True, 0, "", (0, 1), [(0, 1)], [], ((1, 0),), ((0, 3),), ((0, 2), (0, 1)), ((0, 1), (0, 1)), ([0, 1],),
+    ((0, 1), (2, 3), (3, 3)), ((0, True),), ((False, 1),), ((0, 1), None), ((0, 1), (2,)), ((0, 1), ()), ((0, 1, 2),),
+    (((0, 1),),), ("01",), nested(40), ((0, 1),) * 1000, ((0, 1), (0, 2), (1, 2), (1, 3)), ((-2, -1),), ((0, 10**89),),
+    ((),), (0, 1, 2, 3), ((0, 1), [2, 3]), ((0, 1), (3, 2)),
 ]
 WRONG_PLACES = [None, True, False, -1, -4, 4, 10, 10**89, -(10**89), "", "0", (), (0,), [0], nested(40)]
 WRONG_LOTS = [
@@ -71,6 +77,7 @@ SIGN_OR_NONE = ("sign", -1, errors.InvalidSign, WRONG_SIGNS_OF_TIES)
 RING = ("ring", (0, 1, 2), errors.InvalidRing, WRONG_RINGS_OF_WEB)
 NUMBER = ("number", 1, errors.InvalidCount, WRONG_COUNTS)
 VALUE = ("value", ANY, None, [])
+TIES = ("ties", ((0, 1), (2, 3)), errors.InvalidTies, WRONG_TIE_SETS)
 SEVERAL = ("rings", RINGS, errors.InvalidRings, WRONG_SEVERAL)
 FULL_RING = ("ring", (0, 1, 2), errors.InvalidRing, [one for one in WRONG_RINGS_OF_WEB if one not in
                                                      ((0, 1, 3), (0, 1, 2, 3))])
@@ -150,6 +157,32 @@ CALLS = [
     (classes.class_gap, [web(), other(CALM)]),
     (class_numbers.least_kin, [web()]),
     (class_numbers.kind_count, [web()]),
+    (trouble.trouble, [web()]),
+    (trouble.wrong_ties, [web(), LOT]),
+    (trouble.best_camp_count, [web()]),
+    (trouble.nth_best_camp, [web(), NUMBER]),
+    (trouble.is_cure, [web(), TIES]),
+    (trouble.least_cures, [web()]),
+    (trouble.least_bearing, [web(), TIE, SIGN]),
+    (trouble.is_apart, [web(), ("value", [(0, 1, 2)], None, [])]),
+    (trouble.most_apart, [web()]),
+    (rests.ailing, [web()]),
+    (rests.is_at_rest, [web()]),
+    (rests.heavy_lot, [web()]),
+    (rests.is_calming, [web(), ("value", [0], None, [])]),
+    (rests.calmed, [web()]),
+    (rests.calming_lengths, [web()]),
+    (rests.rest_count, [web()]),
+    (rests.nth_rest, [web(), NUMBER]),
+    (lumps.lumps, [web()]),
+    (lumps.joints, [web()]),
+    (lumps.lump_troubles, [web()]),
+    (lumps.bad_ring_at, [web(), TIE]),
+    (lumps.good_ring_at, [web(), TIE]),
+    (lumps.common_ties, [web()]),
+    (lumps.common_places, [web()]),
+    (lumps.least_leaving, [web()]),
+    (lumps.bad_pair, [web()]),
 ]
 DEFAULTS = {("neighbours", "sign"): 0, ("pieces", "lot"): ()}
 TEXTS = (webs.web_told, "text")

@@ -156,3 +156,48 @@ def ring_anew(row):
 def exactly(value, others):
     """Whether the value is one of the others, of the same kinds throughout."""
     return repr(value) in {repr(other) for other in others}
+
+
+def balanced_anew(web):
+    """Whether no round of the web is bad."""
+    return all(sign_anew(web, ring) == 1 for ring in rounds_anew(web))
+
+
+def foes_anew(web):
+    return [(x, y) for x, y in pairs_tied(web) if web[x][y] == -1]
+
+
+def wrong_anew(web, lot):
+    """The ties that are foes in the web turned at the lot."""
+    return tuple(foes_anew(turned_anew(web, lot)))
+
+
+def trouble_anew(web):
+    return min(len(wrong_anew(web, lot)) for lot in lots_of(len(web)))
+
+
+def without_anew(web, ties):
+    """The web without these ties."""
+    many = len(web)
+    return tuple(tuple(0 if (min(x, y), max(x, y)) in ties else web[x][y] for y in range(many)) for x in range(many))
+
+
+def with_other_signs(web, ties):
+    many = len(web)
+    return tuple(
+        tuple(-web[x][y] if (min(x, y), max(x, y)) in ties else web[x][y] for y in range(many)) for x in range(many)
+    )
+
+
+def sets_of(ties):
+    """All ascending tuples of these ties, those of fewer ties first."""
+    return [some for size in range(len(ties) + 1) for some in combinations(ties, size)]
+
+
+def inner_anew(web, lot):
+    return tuple(tuple(web[x][y] for y in lot) for x in lot)
+
+
+def across_anew(web, lot):
+    """The signs of the ties with just one end in the lot."""
+    return [web[x][y] for x, y in pairs_tied(web) if (x in lot) != (y in lot)]

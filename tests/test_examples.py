@@ -12,9 +12,16 @@ from signrounds.classes import (
     nth_member,
 )
 from signrounds.errors import InvalidText, NotAlike, NotBalanced, NotTheta, Refused
+from signrounds.lumps import (
+    bad_pair, bad_ring_at, common_places, common_ties, good_ring_at, joints, least_leaving, lump_troubles, lumps,
+)
+from signrounds.rests import ailing, calmed, calming_lengths, heavy_lot, is_at_rest, is_calming, nth_rest, rest_count
 from signrounds.round_signs import (
     clash, class_with, count_with, is_clash, is_sum_row, is_theta, own_rounds, ring_sum, round_signs, sum_row,
     web_by_own, web_by_signs,
+)
+from signrounds.trouble import (
+    best_camp_count, is_apart, is_cure, least_bearing, least_cures, most_apart, nth_best_camp, trouble, wrong_ties,
 )
 from signrounds.webs import (
     bad_rings, changed, first_forest, foes, neighbours, opposite, ring_sign, ring_ties, ring_told, rings, ties, turned,
@@ -26,6 +33,8 @@ four = web_told(".---/-.--/--.-/---.")
 path = web_told(".-../-.+./.+.-/..-.")
 friends, flip = web_told(".++/+.+/++."), web_told(".--/-.+/-+.")
 all4 = web_told(".+++/+.++/++.+/+++.")
+six = web_told(".-...+/-.+.../.+.+../..+.-./...-.+/+...+.")
+bow = web_told(".++../+.-../+-.++/..+.+/..++.")
 
 
 class Examples(unittest.TestCase):
@@ -94,6 +103,35 @@ class Examples(unittest.TestCase):
         self.assertEqual(told, [[".--/-.-/--."], ((0, 1),), 0])
         told = [web_text(least_kin(web_told(".+++/+.-+/+-.+/+++."))), kind_count(all4), kind_count(tri)]
         self.assertEqual(told, [".+++/+.++/++.-/++-.", 3, 2])
+
+    def test_trouble(self):
+        told = [trouble(tri), wrong_ties(tri, ()), wrong_ties(tri, (0,)), best_camp_count(tri), nth_best_camp(tri, 3),
+                nth_best_camp(tri, 6)]
+        self.assertEqual(told, [1, ((0, 1),), ((0, 2),), 6, (0, 2), None])
+        told = [least_cures(tri), is_cure(tri, ()), is_cure(tri, ((0, 1), (1, 2))), least_bearing(tri, (0, 1), 1)]
+        self.assertEqual(told, [[((0, 1),), ((0, 2),), ((1, 2),)], False, True, 1])
+        told = [trouble(four), best_camp_count(four), len(most_apart(four)), most_apart(tri)]
+        self.assertEqual(told, [2, 6, 1, [(0, 1, 2)]])
+        told = [is_apart(four, [(0, 1, 2)]), is_apart(four, [(0, 1, 2), (0, 1, 3)]), is_apart(four, []),
+                is_apart(four, [(1, 0, 2)])]
+        self.assertEqual(told, [True, False, True, False])
+
+    def test_rests(self):
+        told = [is_at_rest(six), trouble(six), heavy_lot(six), ailing(four), heavy_lot(four)]
+        self.assertEqual(told, [True, 0, (0, 4, 5), (0, 1, 2, 3), (0,)])
+        self.assertEqual(calmed(four), ([0, 1], ((0, -1, 1, 1), (-1, 0, 1, 1), (1, 1, 0, -1), (1, 1, -1, 0))))
+        told = [calming_lengths(four), rest_count(four), nth_rest(four, 0), is_calming(four, [3, 0]),
+                is_calming(four, [0]), is_calming(tri, [])]
+        self.assertEqual(told, [(2, 2), 6, (0, 1), True, False, True])
+
+    def test_lumps(self):
+        told = [lumps(bow), joints(bow), lump_troubles(bow)]
+        self.assertEqual(told, [[(0, 1, 2), (2, 3, 4)], (2,), [((0, 1, 2), 1), ((2, 3, 4), 0)]])
+        told = [bad_ring_at(bow, (0, 1)), bad_ring_at(bow, (2, 3)), good_ring_at(bow, (0, 1)),
+                good_ring_at(bow, (2, 3))]
+        self.assertEqual(told, [(0, 1, 2), None, None, (2, 3, 4)])
+        told = [common_ties(bow), common_places(bow), least_leaving(bow), least_leaving(four), bad_pair(four)]
+        self.assertEqual(told, [[(0, 1), (0, 2), (1, 2)], (0, 1, 2), (0,), (0, 1), None])
 
 
 if __name__ == "__main__":

@@ -27,6 +27,12 @@ INTERFACE = {
         nth_member(web,number) foe_counts(web) even_members(web) changed_to(web,other_web)
         class_gap(web,other_web)""",
     "class_numbers": "least_kin(web) kind_count(web)",
+    "trouble": """trouble(web) wrong_ties(web,lot) best_camp_count(web) nth_best_camp(web,number) is_cure(web,ties)
+        least_cures(web) least_bearing(web,tie,sign) is_apart(web,value) most_apart(web)""",
+    "rests": """ailing(web) is_at_rest(web) heavy_lot(web) is_calming(web,value) calmed(web) calming_lengths(web)
+        rest_count(web) nth_rest(web,number)""",
+    "lumps": """lumps(web) joints(web) lump_troubles(web) bad_ring_at(web,tie) good_ring_at(web,tie) common_ties(web)
+        common_places(web) least_leaving(web) bad_pair(web)""",
 }
 
 

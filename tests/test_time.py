@@ -3,11 +3,11 @@
 import time
 import unittest
 
-from signrounds import alike, camps, class_numbers, classes, round_signs, webs
+from signrounds import alike, camps, class_numbers, classes, lumps, rests, round_signs, trouble, webs
 from signrounds.errors import SignError
 from tests.calls import CALLS
 from tests.counts import turned_anew
-from tests.samples import Draw, circle_web, drawn_webs, empty_web, full_web
+from tests.samples import Draw, circle_web, drawn_webs, empty_web, full_web, pairs_tied
 
 SECONDS = 5
 
@@ -68,6 +68,23 @@ class Times(unittest.TestCase):
                 self.quick(webs.pieces, web, lot)
                 self.quick(camps.by_camp, web, lot)
                 self.quick(camps.is_camp, web, lot)
+
+    def test_of_ten_places_with_a_tie_or_a_number(self):
+        for web in webs_of(10):
+            told = tuple(pairs_tied(web))
+            for tie in told[::4] + told[-1:]:
+                for function in (lumps.bad_ring_at, lumps.good_ring_at):
+                    self.quick(function, web, tie)
+                for sign in (1, -1):
+                    self.quick(trouble.least_bearing, web, tie, sign)
+            for number in (0, 1, 10**89):
+                self.quick(trouble.nth_best_camp, web, number)
+                self.quick(rests.nth_rest, web, number)
+            for some in ((), told, told[::2]):
+                self.quick(trouble.is_cure, web, some)
+            for value in ([], [0] * 3000, [(0, 1, 2)] * 700, [tuple(range(10))] * 200, list(range(10)) * 300):
+                self.quick(trouble.is_apart, web, value)
+                self.quick(rests.is_calming, web, value)
 
     def test_signs_of_all_rounds_of_seven_places(self):
         draw = Draw(114)
