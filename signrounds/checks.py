@@ -1,9 +1,11 @@
 """The errors of parameters: each function raises one unless its last argument is what it must be."""
 
-from signrounds.errors import InvalidCount, InvalidLot, InvalidPlace, InvalidRing, InvalidRings
-from signrounds.errors import InvalidRow, InvalidSign, InvalidSigns, InvalidTie, InvalidTies, InvalidWeb, TooMany
-from signrounds.kinds import is_closed_row_of, is_lot_of, is_naming_of, is_place_of, is_round_of
-from signrounds.kinds import is_round_row_of, is_sign, is_sign_row, is_signed_web, is_tie_of, is_tie_set_of, is_whole
+from signrounds.errors import InvalidCount, InvalidLot, InvalidPlace, InvalidRing, InvalidRings, InvalidRow
+from signrounds.errors import InvalidSign, InvalidSigns, InvalidThrees, InvalidTie, InvalidTies, InvalidWeb
+from signrounds.errors import InvalidWeights, TooMany
+from signrounds.kinds import MOST_PLACES, is_closed_row_of, is_lot_of, is_naming_of, is_place_of, is_round_of
+from signrounds.kinds import is_round_row_of, is_sign, is_sign_row, is_signed_web, is_three_set, is_tie_of
+from signrounds.kinds import is_tie_set_of, is_weight_row, is_whole
 
 
 def need_web(web):
@@ -91,3 +93,18 @@ def need_signs(signs, many):
 def need_number(number):
     if not is_whole(number) or number < 0:
         raise InvalidCount("the number is an integer from 0 on")
+
+
+def need_weights(weights, many):
+    if not is_weight_row(weights, many):
+        raise InvalidWeights(f"this is no tuple of {many} integers from 0 to 1,000,000")
+
+
+def need_many(many):
+    if not is_whole(many) or not 1 <= many <= MOST_PLACES:
+        raise InvalidCount("a web has 1 to 10 places")
+
+
+def need_threes(many, threes):
+    if not is_three_set(threes, many):
+        raise InvalidThrees("this is no ascending tuple of lots of three places")

@@ -2,6 +2,7 @@
 
 MOST_PLACES = 10
 MOST_RINGS = 100
+MOST_WEIGHT = 1000000
 
 
 def is_whole(value):
@@ -95,3 +96,15 @@ def is_round_row_of(web, value):
     if not isinstance(value, tuple) or len(value) > MOST_RINGS:
         return False
     return all([is_round_of(web, one) for one in value])
+
+
+def is_weight_row(value, many):
+    """Whether it is a tuple of so many weights."""
+    return is_whole_row(value) and len(value) == many and all([0 <= one <= MOST_WEIGHT for one in value])
+
+
+def is_three_set(value, many):
+    """Whether it is an ascending tuple of lots of three places less than many."""
+    if not isinstance(value, tuple) or not all([is_index_row(one, many) for one in value]):
+        return False
+    return all([len(one) == 3 for one in value]) and is_ascending(value)

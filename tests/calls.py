@@ -1,6 +1,7 @@
 """Every function of the interface with one good call, and wrong values of each parameter."""
 
-from signrounds import alike, camps, class_numbers, classes, errors, lumps, rests, round_signs, trouble, webs
+from signrounds import alike, camps, class_numbers, classes, errors, free_sets, lumps, rests, round_signs, threes
+from signrounds import tight, trouble, webs, weights
 from tests.samples import OTHERS, circle_web, empty_web, full_web, nested
 
 # Four places, of which just 0 and 3, 1 and 3 are not tied; one round, a bad one.
@@ -53,6 +54,17 @@ WRONG_SEVERAL = [
     ((0, 1, 2), None), ((0, 1, 2), ()), ((0, 1, 4),), (((0, 1, 2),),), ((0, 1, 2),) * 101, ("012",), nested(40),
     ((False, 1, 2),), ((0, 1, 2), (3, 2, 1)), ((),),
 ]
+WRONG_WEIGHTS = [
+    None, True, 0, "", "1234", [1, 2, 3, 4], (), (1, 2, 3), (1, 2, 3, 4, 5), (1, 2, 3, -1), (1000001, 0, 0, 0),
+    (0, 0, 0, 10**89), (0, True, 0, 0), (0, 0, 0, False), (0, None, 0, 0), (0, 0, "1", 0), (0, 0, 0, (1,)), ((0,) * 4,),
+    (0, 0, 0, [1]), (0,) * 3000, nested(40),
+]
+WRONG_THREES = [
+    None, True, 0, "", (0, 1, 2), [(0, 1, 2)], [], ((0, 1),), ((0, 1, 2, 3),), ((0, 2, 1),), ((0, 1, 1),), ((0, 1, 4),),
+    ((-1, 0, 1),), ((0, 1, 2), (0, 1, 2)), ((0, 1, 3), (0, 1, 2)), ([0, 1, 2],), ((0, 1, 2), [0, 1, 3]), ((0, 1, True),),
+    ((False, 1, 2),), ((0, 1, None),), ((0, 1, 2), None), ((),), (((0, 1, 2),),), ("012",), ((0, 1, "2"),), nested(40),
+    ((0, 1, 2), (1, 2, 4)), ((0, 1, 2),) * 750, ((0, 1, 10**89),), ((0, 1, 2), ()),
+]
 WRONG_COUNTS = [None, True, False, -1, -(10**89), "", "0", (), (0,), [0], nested(40)]
 
 
@@ -78,6 +90,9 @@ RING = ("ring", (0, 1, 2), errors.InvalidRing, WRONG_RINGS_OF_WEB)
 NUMBER = ("number", 1, errors.InvalidCount, WRONG_COUNTS)
 VALUE = ("value", ANY, None, [])
 TIES = ("ties", ((0, 1), (2, 3)), errors.InvalidTies, WRONG_TIE_SETS)
+WEIGHTS = ("weights", (3, 0, 1000000, 1), errors.InvalidWeights, WRONG_WEIGHTS)
+MANY = ("many", 4, errors.InvalidCount, WRONG_COUNTS + [0, 11, 10**89])
+THREES = ("threes", ((0, 1, 2), (0, 1, 3)), errors.InvalidThrees, WRONG_THREES)
 SEVERAL = ("rings", RINGS, errors.InvalidRings, WRONG_SEVERAL)
 FULL_RING = ("ring", (0, 1, 2), errors.InvalidRing, [one for one in WRONG_RINGS_OF_WEB if one not in
                                                      ((0, 1, 3), (0, 1, 2, 3))])
@@ -183,8 +198,37 @@ CALLS = [
     (lumps.common_places, [web()]),
     (lumps.least_leaving, [web()]),
     (lumps.bad_pair, [web()]),
+    (tight.tie_kinds, [web()]),
+    (tight.is_tight, [web()]),
+    (tight.tight_part, [web()]),
+    (free_sets.is_free, [web(), TIES]),
+    (free_sets.rank_of, [web(), TIES]),
+    (free_sets.first_free, [web()]),
+    (free_sets.bind_in, [web(CALM), TIES]),
+    (free_sets.is_bind, [web(CALM), ("value", ((0, 1), (0, 2), (1, 2)), None, [])]),
+    (free_sets.bind_with, [web(CALM), ("ties", ((0, 1), (0, 2)), errors.InvalidTies, WRONG_TIE_SETS),
+                           ("tie", (1, 2), errors.InvalidTie, WRONG_TIES + [(0, 1), (0, 2)])]),
+    (free_sets.lightest_free, [web(), WEIGHTS]),
+    (free_sets.is_lightest, [web(), WEIGHTS, TIES]),
+    (free_sets.free_counts, [web()]),
+    (weights.free_weight, [web(), LOT]),
+    (weights.weight_sums, [web()]),
+    (weights.tie_table, [web()]),
+    (weights.tree_count, [web()]),
+    (threes.bad_threes, [web(FULL)]),
+    (threes.is_even, [MANY, ("value", ((0, 1, 2), (0, 1, 3)), None, [])]),
+    (threes.odd_four, [MANY, THREES]),
+    (threes.web_of_threes, [MANY, THREES]),
+    (threes.seen_from, [web(FULL), PLACE]),
+    (threes.even_count, [MANY]),
+    (threes.threes_number, [MANY, THREES]),
+    (threes.nth_threes, [MANY, NUMBER]),
+    (threes.bad_at_ties, [web(FULL)]),
+    (threes.is_steady, [web(FULL)]),
+    (threes.lot_for_row, [web(FULL), ("row", (2, 0, 3, 1), errors.InvalidRow, WRONG_ROWS)]),
+    (threes.keeping_rows, [web(FULL)]),
 ]
-DEFAULTS = {("neighbours", "sign"): 0, ("pieces", "lot"): ()}
+DEFAULTS = {("neighbours", "sign"): 0, ("pieces", "lot"): (), ("free_weight", "lot"): ()}
 TEXTS = (webs.web_told, "text")
 
 

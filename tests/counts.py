@@ -201,3 +201,75 @@ def inner_anew(web, lot):
 def across_anew(web, lot):
     """The signs of the ties with just one end in the lot."""
     return [web[x][y] for x, y in pairs_tied(web) if (x in lot) != (y in lot)]
+
+
+def web_of_set(web, ties):
+    """The web with all places and just these ties."""
+    return without_anew(web, [tie for tie in pairs_tied(web) if tie not in ties])
+
+
+def round_left(ties):
+    """The ties of the rounds, if no two rounds of a piece have a common tie: those left when ends go one by one."""
+    left = list(ties)
+    for _ in ties:
+        ends = [place for tie in left for place in tie]
+        left = [tie for tie in left if ends.count(tie[0]) > 1 and ends.count(tie[1]) > 1]
+    return left
+
+
+def is_free_anew(web, ties):
+    """Whether each piece of the web of the set has at most one round, a bad one."""
+    only = web_of_set(web, ties)
+    for piece in pieces_by_ties(only):
+        inside = [tie for tie in ties if tie[0] in piece]
+        if len(inside) > len(piece):
+            return False
+        if len(inside) == len(piece):
+            foes = [(x, y) for x, y in round_left(inside) if web[x][y] == -1]
+            if len(foes) % 2 == 0:
+                return False
+    return True
+
+
+def pieces_by_ties(web):
+    """The pieces, found by spreading."""
+    told = []
+    for start in range(len(web)):
+        if not any(start in piece for piece in told):
+            reached = {start}
+            for _ in web:
+                reached |= {y for x in reached for y in range(len(web)) if web[x][y]}
+            told.append(tuple(sorted(reached)))
+    return told
+
+
+def rank_anew(web, ties):
+    return max(len(some) for some in sets_of(ties) if is_free_anew(web, some))
+
+
+def binds_anew(web):
+    """All binds, from all sets of ties."""
+    several = sets_of(pairs_tied(web))
+    free = {some for some in several if is_free_anew(web, some)}
+    return [some for some in several if some not in free and
+            all(some[:at] + some[at + 1:] in free for at in range(len(some)))]
+
+
+def fit_weight(web, ties, lot):
+    """4 to the power of the pieces with a round if the set of ties fits the lot, otherwise 0."""
+    only, told = web_of_set(web, ties), 1
+    for piece in pieces_by_ties(only):
+        inside = [tie for tie in ties if tie[0] in piece]
+        many = sum(place in lot for place in piece)
+        if many == 1 and len(inside) == len(piece) - 1:
+            continue
+        if many == 0 and len(inside) == len(piece):
+            if sum(web[x][y] == -1 for x, y in round_left(inside)) % 2:
+                told *= 4
+                continue
+        return 0
+    return told
+
+
+def free_weight_anew(web, lot):
+    return sum(fit_weight(web, some, lot) for some in sets_of(pairs_tied(web)))

@@ -11,7 +11,10 @@ from signrounds.classes import (
     changed_to, class_count, class_gap, class_number, class_size, even_members, foe_counts, member_number, nth_class,
     nth_member,
 )
-from signrounds.errors import InvalidText, NotAlike, NotBalanced, NotTheta, Refused
+from signrounds.errors import InvalidText, InvalidTie, NotAlike, NotAllTied, NotBalanced, NotTheta, Refused
+from signrounds.free_sets import (
+    bind_in, bind_with, first_free, free_counts, is_bind, is_free, is_lightest, lightest_free, rank_of,
+)
 from signrounds.lumps import (
     bad_pair, bad_ring_at, common_places, common_ties, good_ring_at, joints, least_leaving, lump_troubles, lumps,
 )
@@ -20,6 +23,11 @@ from signrounds.round_signs import (
     clash, class_with, count_with, is_clash, is_sum_row, is_theta, own_rounds, ring_sum, round_signs, sum_row,
     web_by_own, web_by_signs,
 )
+from signrounds.threes import (
+    bad_at_ties, bad_threes, even_count, is_even, is_steady, keeping_rows, lot_for_row, nth_threes, odd_four,
+    threes_number, web_of_threes,
+)
+from signrounds.tight import is_tight, tie_kinds, tight_part
 from signrounds.trouble import (
     best_camp_count, is_apart, is_cure, least_bearing, least_cures, most_apart, nth_best_camp, trouble, wrong_ties,
 )
@@ -27,6 +35,7 @@ from signrounds.webs import (
     bad_rings, changed, first_forest, foes, neighbours, opposite, ring_sign, ring_ties, ring_told, rings, ties, turned,
     web_text, web_told, with_tie,
 )
+from signrounds.weights import free_weight, tie_table, tree_count, weight_sums
 
 tri = web_told(".-+/-.+/++.")
 four = web_told(".---/-.--/--.-/---.")
@@ -35,6 +44,11 @@ friends, flip = web_told(".++/+.+/++."), web_told(".--/-.+/-+.")
 all4 = web_told(".+++/+.++/++.+/+++.")
 six = web_told(".-...+/-.+.../.+.+../..+.-./...-.+/+...+.")
 bow = web_told(".++../+.-../+-.++/..+.+/..++.")
+roof = web_told(".-++/-.++/++../++..")
+trio = web_told(".--/-.-/--.")
+amity = web_told(".++/+.+/++.")
+knot = web_told(".--../-.-../--.--/..-.-/..--.")
+five = web_told(".+++++/+.-++-/+-.-++/++-.-+/+++-.-/+-++-.")
 
 
 class Examples(unittest.TestCase):
@@ -132,6 +146,48 @@ class Examples(unittest.TestCase):
         self.assertEqual(told, [(0, 1, 2), None, None, (2, 3, 4)])
         told = [common_ties(bow), common_places(bow), least_leaving(bow), least_leaving(four), bad_pair(four)]
         self.assertEqual(told, [[(0, 1), (0, 2), (1, 2)], (0, 1, 2), (0,), (0, 1), None])
+
+    def test_tight(self):
+        told = [tie_kinds(roof), least_cures(roof), tie_kinds(bow), is_tight(bow), is_tight(tri)]
+        self.assertEqual(told, [("held", "idle", "idle", "idle", "idle"), [((0, 1),)],
+                                ("loose", "loose", "loose", "idle", "idle", "idle"), False, True])
+        self.assertEqual(web_text(tight_part(bow)), ".++../+.-../+-.../...../.....")
+
+    def test_free_sets(self):
+        told = [is_free(trio, ((0, 1), (0, 2), (1, 2))), rank_of(trio, ((0, 1),)), free_counts(trio),
+                bind_in(trio, ((0, 1), (1, 2)))]
+        self.assertEqual(told, [True, 1, [1, 3, 3, 1], None])
+        told = [first_free(amity), bind_in(amity, ((0, 1), (0, 2), (1, 2))), free_counts(amity)]
+        self.assertEqual(told, [((0, 1), (0, 2)), ((0, 1), (0, 2), (1, 2)), [1, 3, 3]])
+        told = [first_free(knot), rank_of(knot, ((0, 1), (0, 2), (1, 2), (3, 4)))]
+        self.assertEqual(told, [((0, 1), (0, 2), (1, 2), (2, 3), (2, 4)), 4])
+        told = [is_bind(knot, ((0, 1), (0, 2), (1, 2), (2, 3), (2, 4), (3, 4))),
+                is_bind(knot, ((0, 1), (0, 2), (1, 2)))]
+        self.assertEqual(told, [True, False])
+        self.assertEqual(bind_with(amity, ((0, 1), (0, 2)), (1, 2)), ((0, 1), (0, 2), (1, 2)))
+        with self.assertRaises(InvalidTie):
+            bind_with(amity, ((0, 1), (0, 2), (1, 2)), (0, 1))
+        told = [lightest_free(amity, (5, 1, 3)), is_lightest(amity, (5, 1, 3), ((0, 1), (0, 2)))]
+        self.assertEqual(told, [(4, ((0, 2), (1, 2))), False])
+
+    def test_weights(self):
+        told = [free_weight(trio), free_weight(trio, (0,)), weight_sums(trio), weight_sums(amity), tree_count(trio)]
+        self.assertEqual(told, [4, 3, [4, 9, 6, 1], [0, 9, 6, 1], 3])
+        told = [tie_table(trio), free_weight(trio, (0, 1, 2)), free_weight(knot)]
+        self.assertEqual(told, [((2, 1, 1), (1, 2, 1), (1, 1, 2)), 1, 24])
+
+    def test_threes(self):
+        self.assertEqual(bad_threes(trio), ((0, 1, 2),))
+        told = [bad_at_ties(five), is_steady(five), len(bad_threes(five)), len(keeping_rows(five))]
+        self.assertEqual(told, [(2,) * 15, True, 10, 60])
+        told = [odd_four(4, ((0, 1, 2),)), is_even(4, ((0, 1, 2), (0, 1, 3))), is_even(4, [(0, 1, 2), (0, 1, 3)]),
+                even_count(5)]
+        self.assertEqual(told, [(0, 1, 2, 3), True, False, 64])
+        self.assertEqual(web_text(web_of_threes(4, ((0, 1, 2), (0, 1, 3)))), ".+++/+.--/+-.+/+-+.")
+        told = [threes_number(4, ((0, 1, 2), (0, 1, 3))), nth_threes(4, 6), nth_threes(4, 8)]
+        self.assertEqual(told, [6, ((0, 1, 2), (0, 1, 3)), None])
+        self.assertEqual(lot_for_row(five, (0, 2, 3, 4, 5, 1)), ())
+        self.raises(NotAllTied, "tie", (0, 3), bad_threes, knot)
 
 
 if __name__ == "__main__":

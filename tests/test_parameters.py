@@ -5,9 +5,9 @@ import importlib
 import inspect
 import unittest
 
-from signrounds import alike, errors, round_signs, webs
+from signrounds import alike, errors, free_sets, round_signs, threes, trouble, webs
 from tests.calls import CALLS, DEFAULTS, WEB, good_call, many_values
-from tests.samples import full_web
+from tests.samples import circle_web, full_web
 
 INTERFACE = {
     "webs": """is_web(value) ties(web) foes(web) neighbours(web,place,sign=0) turned(web,lot) changed(web,tie)
@@ -33,6 +33,13 @@ INTERFACE = {
         rest_count(web) nth_rest(web,number)""",
     "lumps": """lumps(web) joints(web) lump_troubles(web) bad_ring_at(web,tie) good_ring_at(web,tie) common_ties(web)
         common_places(web) least_leaving(web) bad_pair(web)""",
+    "tight": "tie_kinds(web) is_tight(web) tight_part(web)",
+    "free_sets": """is_free(web,ties) rank_of(web,ties) first_free(web) bind_in(web,ties) is_bind(web,value)
+        bind_with(web,ties,tie) lightest_free(web,weights) is_lightest(web,weights,ties) free_counts(web)""",
+    "weights": "free_weight(web,lot=()) weight_sums(web) tie_table(web) tree_count(web)",
+    "threes": """bad_threes(web) is_even(many,value) odd_four(many,threes) web_of_threes(many,threes)
+        seen_from(web,place) even_count(many) threes_number(many,threes) nth_threes(many,number) bad_at_ties(web)
+        is_steady(web) lot_for_row(web,row) keeping_rows(web)""",
 }
 
 
@@ -151,6 +158,22 @@ class Calls(unittest.TestCase):
             (errors.InvalidSigns, round_signs.count_with, small, ((0, 1, 2),), (1, 1)),
             (errors.InvalidRings, round_signs.sum_row, small, ((0, 2, 1),), (0, 2, 1)),
             (errors.InvalidRing, round_signs.sum_row, small, ((0, 1, 2),), (0, 2, 1)),
+            (errors.InvalidTie, trouble.least_bearing, small, (0, 3), 0),
+            (errors.InvalidSign, trouble.least_bearing, small, (0, 2), 0),
+            (errors.InvalidTies, free_sets.bind_with, small, ((1, 0),), (0, 0)),
+            (errors.InvalidTie, free_sets.bind_with, full_web(3, 1), ((0, 1), (0, 2), (1, 2)), (0, 1)),
+            (errors.InvalidWeights, free_sets.is_lightest, small, (1, 1), ((0, 0),)),
+            (errors.InvalidTies, free_sets.is_lightest, small, (1, 1, 1), ((0, 0),)),
+            (errors.InvalidCount, threes.threes_number, 11, ((0, 1, 1),)),
+            (errors.InvalidThrees, threes.threes_number, 4, ((0, 1, 1),)),
+            (errors.NotEven, threes.threes_number, 4, ((0, 1, 2),)),
+            (errors.InvalidCount, threes.nth_threes, 0, -1),
+            (errors.InvalidPlace, threes.seen_from, circle_web(4, True), 4),
+            (errors.NotAllTied, threes.seen_from, circle_web(4, True), 3),
+            (errors.InvalidRow, threes.lot_for_row, circle_web(4, True), (0, 1, 2)),
+            (errors.NotAllTied, threes.lot_for_row, circle_web(4, True), (0, 1, 2, 3)),
+            (errors.NotAllTied, threes.keeping_rows, circle_web(8, True)),
+            (errors.TooMany, threes.keeping_rows, great),
         ):
             with self.assertRaises(error, msg=function.__name__):
                 function(*values)

@@ -3,7 +3,8 @@
 import time
 import unittest
 
-from signrounds import alike, camps, class_numbers, classes, lumps, rests, round_signs, trouble, webs
+from signrounds import alike, camps, class_numbers, classes, free_sets, lumps, rests, round_signs, threes, trouble
+from signrounds import webs, weights
 from signrounds.errors import SignError
 from tests.calls import CALLS
 from tests.counts import turned_anew
@@ -85,6 +86,35 @@ class Times(unittest.TestCase):
             for value in ([], [0] * 3000, [(0, 1, 2)] * 700, [tuple(range(10))] * 200, list(range(10)) * 300):
                 self.quick(trouble.is_apart, web, value)
                 self.quick(rests.is_calming, web, value)
+
+    def test_of_ten_places_with_sets_of_ties_and_lots(self):
+        draw = Draw(115)
+        for web in webs_of(10):
+            told = tuple(pairs_tied(web))
+            some = tuple(tie for tie in told if draw.below(2))
+            worths = ((0,) * len(told), tuple(draw.below(1000001) for _ in told))
+            first = free_sets.first_free(web)
+            for ties in ((), told, some, first):
+                for function in (free_sets.is_free, free_sets.rank_of, free_sets.bind_in, free_sets.is_bind):
+                    self.quick(function, web, ties)
+                for tie in told[::9]:
+                    self.quick(free_sets.bind_with, web, ties, tie)
+                for worth in worths:
+                    self.quick(free_sets.is_lightest, web, worth, ties)
+            for worth in worths:
+                self.quick(free_sets.lightest_free, web, worth)
+            for lot in ((), (0,), (3, 7), tuple(range(10))):
+                self.quick(weights.free_weight, web, lot)
+
+    def test_threes_of_ten_places(self):
+        for number in (0, 1, 2**35, 2**36 - 1, 2**36, 10**89):
+            even = self.quick(threes.nth_threes, 10, number) or ()
+            for some in (even, even[1:]):
+                for function in (threes.is_even, threes.odd_four, threes.web_of_threes, threes.threes_number):
+                    self.quick(function, 10, some)
+        for web in webs_of(10):
+            self.quick(threes.lot_for_row, web, (9, 2, 3, 4, 5, 6, 7, 8, 1, 0))
+            self.quick(threes.seen_from, web, 9)
 
     def test_signs_of_all_rounds_of_seven_places(self):
         draw = Draw(114)
