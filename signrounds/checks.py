@@ -1,11 +1,13 @@
 """The errors of parameters: each function raises one unless its last argument is what it must be."""
 
-from signrounds.errors import InvalidCount, InvalidLot, InvalidPlace, InvalidRing, InvalidRings, InvalidRow
-from signrounds.errors import InvalidSign, InvalidSigns, InvalidThrees, InvalidTie, InvalidTies, InvalidWeb
-from signrounds.errors import InvalidWeights, TooMany
-from signrounds.kinds import MOST_PLACES, is_closed_row_of, is_lot_of, is_naming_of, is_place_of, is_round_of
-from signrounds.kinds import is_round_row_of, is_sign, is_sign_row, is_signed_web, is_three_set, is_tie_of
-from signrounds.kinds import is_tie_set_of, is_weight_row, is_whole
+from signrounds.errors import InvalidChoice, InvalidCount, InvalidLot, InvalidPlace, InvalidRing, InvalidRings
+from signrounds.errors import InvalidRow, InvalidSign, InvalidSigns, InvalidTable, InvalidThrees, InvalidTie
+from signrounds.errors import InvalidTies, InvalidWalk, InvalidWeb, InvalidWeights, TooMany
+from signrounds.kinds import MOST_PLACES, is_choice_of, is_closed_row_of, is_lot_of, is_naming_of, is_place_of
+from signrounds.kinds import is_plain_table, is_round_of, is_round_row_of, is_sign, is_sign_row, is_signed_web
+from signrounds.kinds import is_three_set, is_tie_of, is_tie_set_of, is_walk_of, is_weight_row, is_whole
+
+MOST_COUNT = 1000
 
 
 def need_web(web):
@@ -108,3 +110,23 @@ def need_many(many):
 def need_threes(many, threes):
     if not is_three_set(threes, many):
         raise InvalidThrees("this is no ascending tuple of lots of three places")
+
+
+def need_count(count):
+    if not is_whole(count) or not 0 <= count <= MOST_COUNT:
+        raise InvalidCount("the count is an integer from 0 to 1,000")
+
+
+def need_choice(web, choice):
+    if not is_choice_of(web, choice):
+        raise InvalidChoice("a choice has 1 or -1 for each tie of the web")
+
+
+def need_table(table):
+    if not is_plain_table(table):
+        raise InvalidTable("this is no plain table")
+
+
+def need_walk(table, walk):
+    if not is_walk_of(table, walk):
+        raise InvalidWalk("a walk has one place or more, neighbours tied")

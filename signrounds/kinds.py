@@ -1,6 +1,9 @@
 """Tests of any value: whether it is of a kind that the other files take."""
 
+from signrounds.base import tie_list
+
 MOST_PLACES = 10
+MOST_TABLE_PLACES = 20
 MOST_RINGS = 100
 MOST_WEIGHT = 1000000
 
@@ -35,21 +38,31 @@ def is_index_row(value, many):
     return is_whole_row(value) and is_ascending(value) and all([0 <= one < many for one in value])
 
 
-def is_web_row(value, many):
-    """Whether it may be a row of a web of so many places."""
-    return is_whole_row(value) and len(value) == many and all([one in (1, -1, 0) for one in value])
+def is_row_of(value, many, entries):
+    """Whether it is a tuple of so many integers, each of them one of the entries."""
+    return is_whole_row(value) and len(value) == many and all([one in entries for one in value])
 
 
-def is_signed_web(value):
-    """Whether it is a signed web."""
-    if not isinstance(value, tuple) or not 1 <= len(value) <= MOST_PLACES:
+def is_square(value, most, entries):
+    """Whether it is a tuple of 1 to so many rows of these entries, the same across, with 0 from a place to itself."""
+    if not isinstance(value, tuple) or not 1 <= len(value) <= most:
         return False
     many = len(value)
-    if not all([is_web_row(row, many) for row in value]):
+    if not all([is_row_of(row, many, entries) for row in value]):
         return False
     if not all([value[place][place] == 0 for place in range(many)]):
         return False
     return all([value[x][y] == value[y][x] for x in range(many) for y in range(x)])
+
+
+def is_signed_web(value):
+    """Whether it is a signed web."""
+    return is_square(value, MOST_PLACES, (1, -1, 0))
+
+
+def is_plain_table(value):
+    """Whether it is a plain table."""
+    return is_square(value, MOST_TABLE_PLACES, (1, 0))
 
 
 def is_place_of(web, value):
@@ -108,3 +121,15 @@ def is_three_set(value, many):
     if not isinstance(value, tuple) or not all([is_index_row(one, many) for one in value]):
         return False
     return all([len(one) == 3 for one in value]) and is_ascending(value)
+
+
+def is_choice_of(web, value):
+    """Whether it is a tuple of a way, 1 or -1, for each tie of the web."""
+    return is_sign_row(value, len(tie_list(web)))
+
+
+def is_walk_of(table, value):
+    """Whether it is a walk of the web or plain table: a tuple of one or more places, neighbours tied."""
+    if not is_whole_row(value) or value == () or not all([0 <= place < len(table) for place in value]):
+        return False
+    return all([table[value[at - 1]][value[at]] != 0 for at in range(1, len(value))])

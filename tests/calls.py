@@ -1,8 +1,8 @@
 """Every function of the interface with one good call, and wrong values of each parameter."""
 
-from signrounds import alike, camps, class_numbers, classes, errors, free_sets, lumps, rests, round_signs, threes
-from signrounds import tight, trouble, webs, weights
-from tests.samples import OTHERS, circle_web, empty_web, full_web, nested
+from signrounds import alike, camps, choices, class_numbers, classes, doubled, dyes, errors, free_sets, lumps, rests
+from signrounds import round_signs, threes, tight, trouble, webs, weights
+from tests.samples import OTHERS, circle_web, empty_web, full_web, nested, web_of
 
 # Four places, of which just 0 and 3, 1 and 3 are not tied; one round, a bad one.
 WEB = ((0, -1, 1, 0), (-1, 0, 1, 0), (1, 1, 0, -1), (0, 0, -1, 0))
@@ -66,6 +66,27 @@ WRONG_THREES = [
     ((0, 1, 2), (1, 2, 4)), ((0, 1, 2),) * 750, ((0, 1, 10**89),), ((0, 1, 2), ()),
 ]
 WRONG_COUNTS = [None, True, False, -1, -(10**89), "", "0", (), (0,), [0], nested(40)]
+WRONG_DYEINGS = [
+    None, True, 0, "", "1234", [1, 2, 3, 4], (), (1, 2, 3), (1, 2, 3, 4, 5), (1, 2, 1, 4), (1, 1, 1, 4), (1, -1, 3, 4),
+    (0, 0, 3, 4), (1, 2, 3, -3), (1, 2, 2, 4), (True, 2, 3, 4), (1, 2, 3, None), (1, 2, 3, "4"), (1, 2, 3, (4,)),
+    (1, 2, 3, [4]), ((1, 2, 3, 4),), nested(40), (0,) * 3000, (1, 10**89, 10**89, 4),
+]
+WRONG_WALKS = [
+    None, True, 0, "", "01", (), [0], [0, 1], (0, 0), (0, 3), (0, 1, 3), (0, 1, 2, 2), (4,), (0, 4), (-1,), (0, -2),
+    (True,), (False, 1), (0, True), (0, None), (0, "1"), ((0, 1),), (0, (1,)), (0, [1]), (10**89,), nested(40),
+    tuple(range(3000)), (0, 1, 10**89), (0, 1) * 1400 + (0, 3), (2, 3, 0),
+]
+WRONG_DOUBLED_WALKS = [
+    None, True, 0, "", "05", (), [0, 5], (0, 1), (0, 4), (0, 0), (0, 6), (4, 5), (2, 3), (0, 7), (8,), (0, 5, 8), (-1,),
+    (0, -3), (True,), (False, 5), (4, True), (0, None), (0, "5"), ((0, 5),), (0, (5,)), (0, [5]), nested(40),
+    tuple(range(3000)), (10**89,), (0, 5, 6, 7),
+]
+WRONG_TABLES = [
+    None, True, 0, "", "00/00", (), [], [[0]], ([0],), ((),), ((1,),), ((None,),), ((False,),), ((0, 1),), ((0,), (0,)),
+    ((0, 1), (0, 0)), ((0, -1), (-1, 0)), ((0, 2), (2, 0)), ((1, 0), (0, 0)), ((0, 1), (1, 1)), ((0, True), (True, 0)),
+    ((0, False), (0, 0)), [(0, 1), (1, 0)], ((0, 1), [1, 0]), ((0, 1, 0), (1, 0, 0)), ((0, 1), (1,)), nested(40),
+    ((0, "1"), ("1", 0)), ((0, 10**89), (10**89, 0)), web_of(21, {}), ((0,) * 20,) * 21, ((0,) * 3000,),
+]
 
 
 def wrong_signs(many):
@@ -96,6 +117,14 @@ THREES = ("threes", ((0, 1, 2), (0, 1, 3)), errors.InvalidThrees, WRONG_THREES)
 SEVERAL = ("rings", RINGS, errors.InvalidRings, WRONG_SEVERAL)
 FULL_RING = ("ring", (0, 1, 2), errors.InvalidRing, [one for one in WRONG_RINGS_OF_WEB if one not in
                                                      ((0, 1, 3), (0, 1, 2, 3))])
+COUNT = ("count", 2, errors.InvalidCount, WRONG_COUNTS + [1001, 10**89])
+NONZERO = ("nonzero", True, None, [])
+CHOICE = ("choice", (1, 1, 1, 1), errors.InvalidChoice, wrong_signs(4))
+OTHER_CHOICE = ("other_choice", (1, 1, 1, -1), errors.InvalidChoice, wrong_signs(4))
+WALK = ("walk", (0, 1, 2, 0), errors.InvalidWalk, WRONG_WALKS)
+GOAL = ("goal", 3, errors.InvalidPlace, WRONG_PLACES)
+TABLE = ("table", doubled.doubled(WEB), errors.InvalidTable, WRONG_TABLES)
+TWINS = (4, 5, 6, 7, 0, 1, 2, 3)
 TOLD = ("signs", (1, -1, 1), errors.InvalidSigns, wrong_signs(3))
 
 
@@ -227,8 +256,50 @@ CALLS = [
     (threes.is_steady, [web(FULL)]),
     (threes.lot_for_row, [web(FULL), ("row", (2, 0, 3, 1), errors.InvalidRow, WRONG_ROWS)]),
     (threes.keeping_rows, [web(FULL)]),
+    (dyes.is_dyeing, [web(), ("count", 4, errors.InvalidCount, WRONG_COUNTS + [1001, 10**89]),
+                      ("value", (1, 2, 3, 4), None, []), NONZERO]),
+    (dyes.dyeing_count, [web(), COUNT, NONZERO]),
+    (dyes.first_dyeing, [web(), COUNT, NONZERO]),
+    (dyes.least_width, [web(), NONZERO]),
+    (dyes.polynomial, [web(), NONZERO]),
+    (choices.is_choice, [web(), ("value", (1, 1, 1, 1), None, [])]),
+    (choices.choice_by, [web(), ("row", (1, 2, 3, 4), errors.InvalidRow, WRONG_DYEINGS)]),
+    (choices.stands, [web(), CHOICE]),
+    (choices.standing_row, [web(), CHOICE]),
+    (choices.stop, [web(CALM), ("choice", (1, -1, 1, 1), errors.InvalidChoice, wrong_signs(4))]),
+    (choices.is_standing_row, [web(), CHOICE, ("value", (4, 3, 2, 1), None, [])]),
+    (choices.is_stop, [web(CALM), ("choice", (1, -1, 1, 1), errors.InvalidChoice, wrong_signs(4)),
+                       ("value", (1, 1, 1, 0), None, [])]),
+    (choices.standing_count, [web()]),
+    (choices.standing_choices, [web()]),
+    (choices.turned_choice, [web(), CHOICE, LOT]),
+    (choices.gates, [web(), CHOICE]),
+    (choices.gate_row, [web(), CHOICE, OTHER_CHOICE]),
+    (choices.is_gate_row, [web(), CHOICE, OTHER_CHOICE, ("value", [(2, 3)], None, [])]),
+    (choices.pair_count, [web(), COUNT, NONZERO]),
+    (doubled.doubled, [web()]),
+    (doubled.is_doubled, [("value", doubled.doubled(WEB), None, [])]),
+    (doubled.undoubled, [("table", doubled.doubled(WEB), errors.InvalidTable, WRONG_TABLES + [
+        ((0,),), web_of(3, {}), web_of(4, {(0, 2): 1}), web_of(4, {(0, 1): 1}), ((0, 1), (1, 0)), web_of(19, {})])]),
+    (doubled.sheet_pieces, [web()]),
+    (doubled.walk_sign, [web(), WALK]),
+    (doubled.lifted, [web(), WALK, ("place", 4, errors.InvalidPlace, [one for one in WRONG_PLACES if one != 4] +
+                                    [1, 2, 3, 5, 6, 7, 8])]),
+    (doubled.dropped, [web(), ("walk", (0, 5, 6, 4), errors.InvalidWalk, WRONG_DOUBLED_WALKS)]),
+    (doubled.shortest_walk, [web(), PLACE, GOAL, SIGN]),
+    (doubled.step_table, [web(), PLACE]),
+    (doubled.walk_counts, [web(), PLACE, GOAL, ("number", 4, errors.InvalidCount, WRONG_COUNTS + [61, 10**89])]),
+    (doubled.doubled_tree_count, [web()]),
+    (doubled.is_twin_map, [TABLE, ("value", TWINS, None, [])]),
+    (doubled.twin_maps, [TABLE]),
+    (doubled.web_of_twins, [TABLE, ("row", TWINS, errors.InvalidRow, WRONG_ROWS + [
+        TWINS[::-1], tuple(range(8)), list(TWINS), TWINS[:-1], TWINS + (8,), (4, 5, 6, 7, False, True, 2, 3)])]),
 ]
-DEFAULTS = {("neighbours", "sign"): 0, ("pieces", "lot"): (), ("free_weight", "lot"): ()}
+DEFAULTS = {
+    ("neighbours", "sign"): 0, ("pieces", "lot"): (), ("free_weight", "lot"): (), ("is_dyeing", "nonzero"): False,
+    ("dyeing_count", "nonzero"): False, ("first_dyeing", "nonzero"): False, ("least_width", "nonzero"): False,
+    ("polynomial", "nonzero"): False, ("pair_count", "nonzero"): False,
+}
 TEXTS = (webs.web_told, "text")
 
 
@@ -242,4 +313,5 @@ def good_call(function):
 
 
 def many_values():
-    return OTHERS + [WEB, CALM, LIKE, FULL, RINGS, empty_web(1), empty_web(10), circle_web(5, True)]
+    return OTHERS + [WEB, CALM, LIKE, FULL, RINGS, empty_web(1), empty_web(10), circle_web(5, True),
+                     doubled.doubled(WEB), doubled.doubled(circle_web(10, True)), TWINS, (1, 1, 1, 1), (1, 2, 3, 4)]

@@ -273,3 +273,16 @@ def fit_weight(web, ties, lot):
 
 def free_weight_anew(web, lot):
     return sum(fit_weight(web, some, lot) for some in sets_of(pairs_tied(web)))
+
+
+def calm_pieces_by_spreading(web):
+    """The balanced pieces: those in which signs spread without clashing."""
+    told = []
+    for piece in pieces_by_ties(web):
+        side = {piece[0]: 1}
+        for _ in piece:
+            for x in list(side):
+                side.update({y: side[x] * web[x][y] for y in piece if web[x][y] and y not in side})
+        if all(web[x][y] in (0, side[x] * side[y]) for x, y in combinations(piece, 2)):
+            told.append(piece)
+    return told

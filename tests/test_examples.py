@@ -6,11 +6,19 @@ from signrounds.alike import (
     are_alike, form, form_turning, kin_count, product, turning_between, turnings_between, unlike_ring,
 )
 from signrounds.camps import bad_ring, balanced_pieces, by_camp, camp, camps, is_bad_ring, is_balanced, is_camp
+from signrounds.choices import (
+    choice_by, gates, is_gate_row, pair_count, standing_count, standing_row, stands, stop, turned_choice,
+)
 from signrounds.class_numbers import kind_count, least_kin
 from signrounds.classes import (
     changed_to, class_count, class_gap, class_number, class_size, even_members, foe_counts, member_number, nth_class,
     nth_member,
 )
+from signrounds.doubled import (
+    doubled, doubled_tree_count, dropped, lifted, sheet_pieces, step_table, twin_maps, walk_counts, walk_sign,
+    web_of_twins,
+)
+from signrounds.dyes import dyeing_count, first_dyeing, least_width, polynomial
 from signrounds.errors import InvalidText, InvalidTie, NotAlike, NotAllTied, NotBalanced, NotTheta, Refused
 from signrounds.free_sets import (
     bind_in, bind_with, first_free, free_counts, is_bind, is_free, is_lightest, lightest_free, rank_of,
@@ -49,6 +57,8 @@ trio = web_told(".--/-.-/--.")
 amity = web_told(".++/+.+/++.")
 knot = web_told(".--../-.-../--.--/..-.-/..--.")
 five = web_told(".+++++/+.-++-/+-.-++/++-.-+/+++-.-/+-++-.")
+bad, good = web_told(".+-/+.+/-+."), web_told(".++/+.+/++.")
+bent = web_told(".+./+.-/.-.")
 
 
 class Examples(unittest.TestCase):
@@ -188,6 +198,32 @@ class Examples(unittest.TestCase):
         self.assertEqual(told, [6, ((0, 1, 2), (0, 1, 3)), None])
         self.assertEqual(lot_for_row(five, (0, 2, 3, 4, 5, 1)), ())
         self.raises(NotAllTied, "tie", (0, 3), bad_threes, knot)
+
+    def test_dyes(self):
+        told = [polynomial(bad), polynomial(bad, nonzero=True), polynomial(good), dyeing_count(bad, 1),
+                dyeing_count(bad, 1, nonzero=True)]
+        self.assertEqual(told, [[-1, 3, -3, 1], [0, 3, -3, 1], [0, 2, -3, 1], 8, 2])
+        told = [first_dyeing(bad, 1), first_dyeing(bad, 1, nonzero=True), least_width(good),
+                least_width(good, nonzero=True), first_dyeing(good, 0)]
+        self.assertEqual(told, [(-1, 0, -1), (-1, 1, -1), 1, 2, None])
+
+    def test_choices(self):
+        told = [choice_by(bad, (1, -2, 3)), stands(good, (1, -1, 1)), stop(good, (1, -1, 1)), standing_count(bad),
+                standing_count(good)]
+        self.assertEqual(told, [(1, 1, -1), False, (1, 1, 1), 8, 6])
+        told = [gates(good, (1, 1, 1)), turned_choice(bad, (1, 1, -1), (0,)),
+                is_gate_row(good, (1, 1, 1), (-1, 1, 1), [(0, 1)]), pair_count(bad, 0)]
+        self.assertEqual(told, [[(0, 1), (1, 2)], (-1, -1, -1), True, 8])
+        self.assertIn(standing_row(web_told(".-/-."), (-1,)), [(-1, -2), (-2, -1), (-2, 1), (1, -2)])
+
+    def test_doubled(self):
+        told = [doubled(bent)[1], sheet_pieces(bent), sheet_pieces(tri), walk_sign(tri, (0, 1, 2, 0)),
+                lifted(tri, (0, 1, 2, 0), 0)]
+        self.assertEqual(told, [(1, 0, 0, 0, 0, 1), [(0, 1, 5), (2, 3, 4)], [(0, 1, 2, 3, 4, 5)], -1, (0, 4, 5, 3)])
+        told = [dropped(tri, (0, 4, 5, 3)), step_table(tri, 0), walk_counts(tri, 0, 0, 3), doubled_tree_count(tri)]
+        self.assertEqual(told, [(0, 1, 2, 0), [(0, 3), (2, 1), (1, 2)], (0, 2), 6])
+        told = [twin_maps(doubled(tri)), web_of_twins(doubled(tri), (3, 4, 5, 0, 1, 2)) == tri]
+        self.assertEqual(told, [[(3, 4, 5, 0, 1, 2)], True])
 
 
 if __name__ == "__main__":

@@ -5,9 +5,9 @@ import importlib
 import inspect
 import unittest
 
-from signrounds import alike, errors, free_sets, round_signs, threes, trouble, webs
-from tests.calls import CALLS, DEFAULTS, WEB, good_call, many_values
-from tests.samples import circle_web, full_web
+from signrounds import alike, choices, doubled, dyes, errors, free_sets, round_signs, threes, trouble, webs
+from tests.calls import CALLS, CALM, DEFAULTS, FULL, WEB, good_call, many_values
+from tests.samples import circle_web, empty_web, full_web
 
 INTERFACE = {
     "webs": """is_web(value) ties(web) foes(web) neighbours(web,place,sign=0) turned(web,lot) changed(web,tie)
@@ -40,7 +40,19 @@ INTERFACE = {
     "threes": """bad_threes(web) is_even(many,value) odd_four(many,threes) web_of_threes(many,threes)
         seen_from(web,place) even_count(many) threes_number(many,threes) nth_threes(many,number) bad_at_ties(web)
         is_steady(web) lot_for_row(web,row) keeping_rows(web)""",
+    "dyes": """is_dyeing(web,count,value,nonzero=False) dyeing_count(web,count,nonzero=False)
+        first_dyeing(web,count,nonzero=False) least_width(web,nonzero=False) polynomial(web,nonzero=False)""",
+    "choices": """is_choice(web,value) choice_by(web,row) stands(web,choice) standing_row(web,choice) stop(web,choice)
+        is_standing_row(web,choice,value) is_stop(web,choice,value) standing_count(web) standing_choices(web)
+        turned_choice(web,choice,lot) gates(web,choice) gate_row(web,choice,other_choice)
+        is_gate_row(web,choice,other_choice,value) pair_count(web,count,nonzero=False)""",
+    "doubled": """doubled(web) is_doubled(value) undoubled(table) sheet_pieces(web) walk_sign(web,walk)
+        lifted(web,walk,place) dropped(web,walk) shortest_walk(web,place,goal,sign) step_table(web,place)
+        walk_counts(web,place,goal,number) doubled_tree_count(web) is_twin_map(table,value) twin_maps(table)
+        web_of_twins(table,row)""",
 }
+PLAIN_TABLES = [repr(table) for table in (
+    empty_web(1), empty_web(10), FULL, CALM, doubled.doubled(WEB), doubled.doubled(circle_web(10, True)))]
 
 
 def outcome(function, *values, **named):
@@ -114,6 +126,14 @@ class Calls(unittest.TestCase):
                         with self.assertRaises(errors.InvalidWeb):
                             function(value, *good_call(function)[1:])
 
+    def test_any_value_where_a_table_is_asked_for(self):
+        for function, parameters in CALLS:
+            if parameters[0][0] == "table":
+                for value in many_values():
+                    if repr(value) not in PLAIN_TABLES:
+                        with self.assertRaises(errors.InvalidTable):
+                            function(value, *good_call(function)[1:])
+
     def test_any_value_for_each_parameter_ends_in_a_result_or_a_sign_error(self):
         for function, parameters in CALLS:
             for at, (name, _, error, _) in enumerate(parameters):
@@ -174,6 +194,24 @@ class Calls(unittest.TestCase):
             (errors.NotAllTied, threes.lot_for_row, circle_web(4, True), (0, 1, 2, 3)),
             (errors.NotAllTied, threes.keeping_rows, circle_web(8, True)),
             (errors.TooMany, threes.keeping_rows, great),
+            (errors.InvalidCount, dyes.is_dyeing, small, 1001, None),
+            (errors.InvalidChoice, choices.is_stop, small, (1, 1), None),
+            (errors.InvalidChoice, choices.turned_choice, small, (1, 1), (3,)),
+            (errors.InvalidLot, choices.turned_choice, small, (1, 1, 1), (3,)),
+            (errors.InvalidChoice, choices.gate_row, full_web(3, 1), (1, -1, 1), (1, 1)),
+            (errors.NotStanding, choices.gate_row, full_web(3, 1), (1, -1, 1), (1, 1, 1)),
+            (errors.NotStanding, choices.gate_row, full_web(3, 1), (1, 1, 1), (1, -1, 1)),
+            (errors.InvalidWalk, doubled.lifted, small, (0, 0), 9),
+            (errors.InvalidPlace, doubled.lifted, small, (0, 1), 1),
+            (errors.InvalidPlace, doubled.shortest_walk, small, 3, None, 0),
+            (errors.InvalidPlace, doubled.shortest_walk, small, 0, 3, 0),
+            (errors.InvalidSign, doubled.shortest_walk, small, 0, 0, 0),
+            (errors.InvalidPlace, doubled.walk_counts, small, 0, 3, 61),
+            (errors.InvalidCount, doubled.walk_counts, small, 0, 0, 61),
+            (errors.InvalidTable, doubled.twin_maps, full_web(10, -1)),
+            (errors.TooMany, doubled.twin_maps, doubled.doubled(circle_web(6, True))),
+            (errors.InvalidTable, doubled.web_of_twins, full_web(2, -1), (0, 1)),
+            (errors.InvalidRow, doubled.web_of_twins, doubled.doubled(great), (0, 1)),
         ):
             with self.assertRaises(error, msg=function.__name__):
                 function(*values)

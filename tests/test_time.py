@@ -3,8 +3,8 @@
 import time
 import unittest
 
-from signrounds import alike, camps, class_numbers, classes, free_sets, lumps, rests, round_signs, threes, trouble
-from signrounds import webs, weights
+from signrounds import alike, camps, choices, class_numbers, classes, doubled, dyes, free_sets, lumps, rests
+from signrounds import round_signs, threes, trouble, webs, weights
 from signrounds.errors import SignError
 from tests.calls import CALLS
 from tests.counts import turned_anew
@@ -105,6 +105,53 @@ class Times(unittest.TestCase):
                 self.quick(free_sets.lightest_free, web, worth)
             for lot in ((), (0,), (3, 7), tuple(range(10))):
                 self.quick(weights.free_weight, web, lot)
+
+    def test_of_ten_places_with_numbers(self):
+        many_tied = [Draw(tied).web(10, tied, foes) for tied in (50, 70, 85) for foes in (0, 20, 50)]
+        for web in webs_of(10) + many_tied:
+            for nonzero in (False, True):
+                self.quick(dyes.polynomial, web, nonzero)
+                least = self.quick(dyes.least_width, web, nonzero)
+                for count in (0, least, least - 1 if least else 0, least + 1, 1000):
+                    self.quick(dyes.first_dyeing, web, count, nonzero)
+                    self.quick(dyes.dyeing_count, web, count, nonzero)
+                    self.quick(choices.pair_count, web, count, nonzero)
+                for value in ((0,) * 10, (1,) * 10, tuple(range(10)), (0,) * 3000):
+                    self.quick(dyes.is_dyeing, web, 1000, value, nonzero)
+
+    def test_of_ten_places_with_choices(self):
+        draw = Draw(116)
+        for web in webs_of(10):
+            down = choices.choice_by(web, tuple(range(1, 11)))
+            up = choices.choice_by(web, (-3, -1, 2, 9, -8, 6, -4, 10, 5, 7))
+            drawn = tuple(draw.one((1, -1)) for _ in down)
+            for choice in (down, up, drawn):
+                for function in (choices.stands, choices.standing_row, choices.stop, choices.gates):
+                    self.quick(function, web, choice)
+                for other in (down, up, drawn):
+                    row = self.quick(choices.gate_row, web, choice, other)
+                    for value in (row, pairs_tied(web), [(0, 1)] * 1000):
+                        self.quick(choices.is_gate_row, web, choice, other, value)
+
+    def test_of_ten_places_doubled(self):
+        for web in webs_of(10):
+            table = self.quick(doubled.doubled, web)
+            self.quick(doubled.is_doubled, table)
+            self.quick(doubled.undoubled, table)
+            walk = [0]
+            while len(walk) < 3000:
+                walk.append([place for place, sign in enumerate(web[walk[-1]]) if sign or not any(web[0])][0])
+            self.quick(doubled.walk_sign, web, tuple(walk))
+            self.quick(doubled.dropped, web, self.quick(doubled.lifted, web, tuple(walk), 10))
+            for goal in (0, 9):
+                self.quick(doubled.walk_counts, web, 0, goal, 60)
+                self.quick(doubled.shortest_walk, web, 0, goal, -1)
+            row = tuple(range(10, 20)) + tuple(range(10))
+            self.quick(doubled.is_twin_map, table, row)
+            self.quick(doubled.web_of_twins, table, row)
+            self.quick(doubled.step_table, web, 0)
+        for web in webs_of(5):
+            self.quick(doubled.twin_maps, doubled.doubled(web))
 
     def test_threes_of_ten_places(self):
         for number in (0, 1, 2**35, 2**36 - 1, 2**36, 10**89):
