@@ -100,6 +100,26 @@ def inner_web(web, lot):
     return web_of_rows([[web[x][y] for y in lot] for x in lot])
 
 
+def others_of(web, lot):
+    """The lot of all other places."""
+    return tuple([place for place in range(len(web)) if place not in lot])
+
+
+def tied_across(web, signs, other_web):
+    """Both webs as one, the places of the other one behind; each is tied with the place x by signs[x], if not 0."""
+    rows = [list(row) + [sign] * len(other_web) for row, sign in zip(web, signs)]
+    return web_of_rows(rows + [list(signs) + list(row) for row in other_web])
+
+
+def drawn_into(web, kept, gone):
+    """The web without the place gone, whose ties with others the place kept gets."""
+    rows = [list(row) for row in web]
+    for place, sign in enumerate(web[gone]):
+        if sign != 0 and place != kept:
+            rows[kept][place] = rows[place][kept] = sign
+    return inner_web(rows, others_of(web, (gone,)))
+
+
 def told_ring(row):
     """The round with the places of the row in their sequence."""
     at = row.index(min(row))

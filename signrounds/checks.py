@@ -26,6 +26,12 @@ def need_few(web, most):
         raise TooMany(most)
 
 
+def need_room(many):
+    """TooMany unless a web can have so many places."""
+    if many > MOST_PLACES:
+        raise TooMany(MOST_PLACES)
+
+
 def need_small_web(web, most):
     need_web(web)
     need_few(web, most)

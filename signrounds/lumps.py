@@ -1,6 +1,6 @@
 """Lumps and joints of a web, rounds through a tie, and what bad rounds have in common."""
 
-from signrounds.base import inner_web, lot_order, ring_tie_list, tie_list, told_ring, without_ties
+from signrounds.base import inner_web, lot_order, others_of, ring_tie_list, tie_list, told_ring, without_ties
 from signrounds.checks import need_tie, need_web
 from signrounds.forests import own_ring_list, some_bad_ring
 from signrounds.lots import lot_list, trouble_of
@@ -30,11 +30,6 @@ def bad_ring_within(web, lot):
     """A bad round all of whose places are in the lot; None if there is none."""
     ring = some_bad_ring(inner_web(web, lot))
     return None if ring is None else tuple([lot[at] for at in ring])
-
-
-def others_of(web, lot):
-    """The lot of all other places."""
-    return tuple([place for place in range(len(web)) if place not in lot])
 
 
 def ring_at(web, tie, sign):

@@ -1,11 +1,11 @@
 """Signed webs: their ties, pieces and rounds, webs made from webs, and their texts."""
 
 from signrounds.base import foe_list, inner_web, piece_list, renamed_by, ring_list, ring_tie_list
-from signrounds.base import sign_of_ring, tie_list, told_ring, turned_at, web_of_rows, with_sign
-from signrounds.checks import need_closed_row, need_lot, need_naming, need_other_place, need_place
-from signrounds.checks import need_ring, need_sign, need_sign_or_none, need_small_web, need_tie, need_two_webs
+from signrounds.base import sign_of_ring, tie_list, tied_across, told_ring, turned_at, web_of_rows, with_sign
+from signrounds.checks import need_closed_row, need_lot, need_naming, need_other_place, need_place, need_ring
+from signrounds.checks import need_room, need_sign, need_sign_or_none, need_small_web, need_tie, need_two_webs
 from signrounds.checks import need_web
-from signrounds.errors import InvalidLot, InvalidText, Refused, TooMany
+from signrounds.errors import InvalidLot, InvalidText, Refused
 from signrounds.forests import forest_list
 from signrounds.kinds import MOST_PLACES, is_round_of, is_signed_web
 
@@ -105,10 +105,8 @@ def renamed(web, row):
 def beside(web, other_web):
     """Both webs as one, the places of the other one behind those of the first."""
     need_two_webs(web, other_web)
-    if len(web) + len(other_web) > MOST_PLACES:
-        raise TooMany(MOST_PLACES)
-    before, behind = (0,) * len(web), (0,) * len(other_web)
-    return tuple([row + behind for row in web] + [before + row for row in other_web])
+    need_room(len(web) + len(other_web))
+    return tied_across(web, [0] * len(web), other_web)
 
 
 def first_forest(web):

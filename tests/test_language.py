@@ -12,7 +12,7 @@ LIBRARY = {
     "itertools": {"product", "combinations", "permutations"},
 }
 CALLED = set("""len range enumerate zip min max sum abs sorted reversed int str bool bytes list tuple dict set frozenset
-    isinstance ord repr any all divmod iter next map super""".split())
+    isinstance ord repr any all divmod iter next map super property""".split())
 ERRORS = set("""Exception ValueError TypeError KeyError IndexError LookupError ZeroDivisionError ArithmeticError
     OverflowError RuntimeError NotImplementedError AttributeError StopIteration NotImplemented""".split())
 METHODS = set("""append clear copy count endswith extend find get index insert isalnum isalpha isdigit islower isspace
@@ -74,7 +74,7 @@ class Language(unittest.TestCase):
             for node in ast.walk(tree):
                 if isinstance(node, ast.FunctionDef):
                     self.assertLessEqual(node.end_lineno - node.lineno + 1, 40, (name, node.name))
-                    self.assertEqual(node.decorator_list, [], (name, node.name))
+                    self.assertLessEqual({ast.unparse(one) for one in node.decorator_list}, {"property"}, name)
 
     def test_module_level(self):
         for name, tree in trees().items():
@@ -134,9 +134,40 @@ class Language(unittest.TestCase):
             self.assertFalse(set(inside) & taken, name)
             for one in names_bound(tree):
                 self.assertNotIn(one, NEVER | NO_NAMES | set(dir(builtins)) - {"__init__"}, name)
-                self.assertTrue(one == "_" or one == "__init__" or not one.startswith("__"), (name, one))
+                self.assertTrue(one == "_" or one in ("__init__", "__eq__") or not one.startswith("__"), (name, one))
+
+    def test_properties(self):
+        for name, tree in trees().items():
+            inside = {id(part) for node in ast.walk(tree) if isinstance(node, ast.ClassDef) for part in node.body}
+            for node in ast.walk(tree):
+                if isinstance(node, ast.FunctionDef) and node.decorator_list:
+                    self.assertTrue(id(node) in inside and len(node.args.args) == 1, (name, node.name))
+                    self.assertNotIn(node.name, METHODS, name)
+                    for one in ast.walk(node):
+                        self.assertNotIsInstance(one, (ast.Assign, ast.AugAssign, ast.Delete, ast.Call), name)
+
+    def test_no_name_is_a_method_and_an_attribute_of_one_class(self):
+        for name, tree in trees().items():
+            for node in ast.walk(tree):
+                if isinstance(node, ast.ClassDef):
+                    methods = [part.name for part in node.body if isinstance(part, ast.FunctionDef)]
+                    self.assertEqual(len(set(methods)), len(methods), (name, node.name))
+                    stored = {one.attr for one in ast.walk(tree)
+                              if isinstance(one, ast.Attribute) and isinstance(one.ctx, ast.Store)}
+                    self.assertFalse(set(methods) & stored, (name, node.name))
+
+    def test_no_method_is_read_off_a_class(self):
+        classes = {node.name for tree in trees().values() for node in ast.walk(tree) if isinstance(node, ast.ClassDef)}
+        for name, tree in trees().items():
+            for node in ast.walk(tree):
+                if isinstance(node, ast.Attribute) and isinstance(node.value, ast.Name):
+                    self.assertNotIn(node.value.id, classes, name)
+                if isinstance(node, ast.Try):
+                    for handler in node.handlers:
+                        self.assertEqual(ast.unparse(handler.type), "SignError", name)
 
     def test_calls(self):
+        own = {one for tree in trees().values() for one in names_bound(tree)}
         for name, tree in trees().items():
             known = set(names_bound(tree)) | ERRORS | CALLED | {
                 one.name for node in tree.body if isinstance(node, ast.ImportFrom) for one in node.names}
@@ -144,7 +175,7 @@ class Language(unittest.TestCase):
                 if isinstance(node, ast.Name) and isinstance(node.ctx, ast.Load):
                     self.assertIn(node.id, known, name)
                 if isinstance(node, ast.Call) and isinstance(node.func, ast.Attribute):
-                    self.assertIn(node.func.attr, METHODS | {"__init__"} | set(names_bound(tree)), name)
+                    self.assertIn(node.func.attr, METHODS | {"__init__"} | own, name)
                 if isinstance(node, ast.Attribute):
                     self.assertNotIn(node.attr, NEVER, name)
 
