@@ -16,7 +16,9 @@ class Live:
         self.set_out(None)
 
     def __eq__(self, other):
-        return isinstance(other, Live) and self.story() == other.story()
+        if not isinstance(other, Live) or self._first != other._first:
+            return False
+        return self.start == other.start and self.deeds == other.deeds
 
     @property
     def deeds(self):
@@ -25,11 +27,8 @@ class Live:
 
     def set_out(self, limit):
         """Begin at the start, with a limit or with None."""
+        self._first = limit
         self.recall(([first_step(self.start, limit)], []))
-
-    def story(self):
-        """What two live webs that are equal have in common: start, first limit and deeds."""
-        return self.start, self._steps[0].scene.limit, self.deeds
 
     def memory(self):
         """The steps and the beginnings of the open spans, for recall."""

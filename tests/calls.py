@@ -1,7 +1,7 @@
 """Every function of the interface with one good call, and wrong values of each parameter."""
 
-from signrounds import alike, camps, choices, class_numbers, classes, doubled, dyes, errors, free_sets, lumps, rests
-from signrounds import round_signs, threes, tight, trouble, webs, weights
+from signrounds import alike, camps, choices, class_numbers, classes, doubled, dyes, errors, free_sets, joining, lumps
+from signrounds import paper_texts, rests, round_signs, threes, tight, trouble, webs, weights
 from tests.samples import OTHERS, circle_web, empty_web, full_web, nested, web_of
 
 # Four places, of which just 0 and 3, 1 and 3 are not tied; one round, a bad one.
@@ -294,6 +294,17 @@ CALLS = [
     (doubled.twin_maps, [TABLE]),
     (doubled.web_of_twins, [TABLE, ("row", TWINS, errors.InvalidRow, WRONG_ROWS + [
         TWINS[::-1], tuple(range(8)), list(TWINS), TWINS[:-1], TWINS + (8,), (4, 5, 6, 7, False, True, 2, 3)])]),
+    (joining.joined_at, [web(), other(((0, 1), (1, 0))), ("place", 3, errors.InvalidPlace, WRONG_PLACES),
+                         ("spot", 1, errors.InvalidPlace, WRONG_PLACES + [2, 3])]),
+    (joining.joined_all, [web(), other(), SIGN]),
+    (joining.put_in, [web(), PLACE, other()]),
+    (joining.parted_tie, [web(), TIE]),
+    (joining.with_place, [web(), ("signs", (1, 0, -1, 0), errors.InvalidSigns, [
+        one for one in wrong_signs(4) if repr(one) != "(1, 1, 1, 0)"] + [(0, 0, 0, -2), (0, 0, 0, 10**89)])]),
+    (joining.less_place, [web(), PLACE]),
+    (joining.drawn, [web(CALM), TIE]),
+    (joining.trimmed, [web()]),
+    (paper_texts.is_paper, [("value", ("ring", WEB, (0, 1, 2)), None, [])]),
 ]
 DEFAULTS = {
     ("neighbours", "sign"): 0, ("pieces", "lot"): (), ("free_weight", "lot"): (), ("is_dyeing", "nonzero"): False,

@@ -19,13 +19,19 @@ from signrounds.doubled import (
     web_of_twins,
 )
 from signrounds.dyes import dyeing_count, first_dyeing, least_width, polynomial
-from signrounds.errors import InvalidText, InvalidTie, NotAlike, NotAllTied, NotBalanced, NotTheta, Refused
+from signrounds.console import Console
+from signrounds.errors import (
+    InvalidText, InvalidTie, NotAlike, NotAllTied, NotBalanced, NotShown, NotTheta, OverLimit, Refused,
+)
 from signrounds.free_sets import (
     bind_in, bind_with, first_free, free_counts, is_bind, is_free, is_lightest, lightest_free, rank_of,
 )
+from signrounds.joining import drawn, parted_tie, put_in, trimmed
+from signrounds.live import LimitedLive, Live
 from signrounds.lumps import (
     bad_pair, bad_ring_at, common_places, common_ties, good_ring_at, joints, least_leaving, lump_troubles, lumps,
 )
+from signrounds.paper_texts import paper_text, paper_told
 from signrounds.rests import ailing, calmed, calming_lengths, heavy_lot, is_at_rest, is_calming, nth_rest, rest_count
 from signrounds.round_signs import (
     clash, class_with, count_with, is_clash, is_sum_row, is_theta, own_rounds, ring_sum, round_signs, sum_row,
@@ -224,6 +230,45 @@ class Examples(unittest.TestCase):
         self.assertEqual(told, [(0, 1, 2, 0), [(0, 3), (2, 1), (1, 2)], (0, 2), 6])
         told = [twin_maps(doubled(tri)), web_of_twins(doubled(tri), (3, 4, 5, 0, 1, 2)) == tri]
         self.assertEqual(told, [[(3, 4, 5, 0, 1, 2)], True])
+
+    def test_joining(self):
+        told = [web_text(drawn(bent, (1, 2))), web_text(parted_tie(bent, (1, 2))), trimmed(bent), trimmed(tri)]
+        self.assertEqual(told, [".+/+.", ".+../+..+/...-/.+-.", (), (0, 1, 2)])
+        self.assertEqual(web_text(put_in(web_told(".+/+."), 1, web_told(".-/-."))), ".++/+.-/+-.")
+        self.raises(NotBalanced, "ring", (0, 1, 2), drawn, tri, (0, 2))
+
+    def test_live(self):
+        live = Live(web_told(".+-/+.+/-+."))
+        self.assertEqual([live.view == live.web, live.turned, live.troubles(), live.view_foes()], [True, (), [1], [1]])
+        told = [live.flip(0, 1), live.row(0), live.turned, live.troubles(), live.view_foes()]
+        self.assertEqual(told, [-1, (0,), (0,), [1, 0], [1, 0]])
+        told = [live.come((0,), (2,)), live.would(("untie", 0, 3)), live.moments()]
+        self.assertEqual(told, [3, (0, 0, ()), [(0,), (1,), (2,)]])
+        told = [live.turn((0, 3)), live.turned, live.row(2), live.moments()]
+        self.assertEqual(told, [None, (), (), [(0,), (1,), (2, 3)]])
+        with self.assertRaises(Refused):
+            live.shake((1,))
+        tight = LimitedLive(web_told(".+/+."), 0)
+        self.assertEqual([tight.come((0,), ()), tight.tie(1, 2, 1), tight.limit], [2, None, 0])
+        self.raises(OverLimit, "count", 1, tight.flip, 1, 2)
+
+    def test_paper_texts(self):
+        told = [paper_text(("camp", web_told(".-/-."), (0,))), paper_told("r;.+-/+.+/-+.;012")]
+        self.assertEqual(told, ["c;.-/-.;0", ("ring", ((0, 1, -1), (1, 0, 1), (-1, 1, 0)), (0, 1, 2))])
+        self.raises(InvalidText, "index", 9, paper_told, "c;.-/-.;10")
+        self.raises(NotShown, "ties", ((0, 1),), paper_told, "c;.-/-.;")
+        self.raises(InvalidText, "index", 15, paper_told, "r;.+-/+.+/-+.;02")
+        told = ("turned", ((0, 1), (1, 0)), ((0, -1), (-1, 0)), (1,))
+        self.assertEqual(paper_told("t;.+/+.;.-/-.;1"), told)
+
+    def test_console(self):
+        console = Console()
+        told = console.execute("run web a .+-/+.+/-+.; flip 0 1; come +0 -2; troubles; turned; journal")
+        self.assertEqual(told, "ok; -; 3; 1 0 0; 0 3; web a .+-/+.+/-+.; flip 0 1; come +0 -2")
+        told = [console.execute("paper"), console.execute("undo"), console.execute("row 0"), console.execute("limit")]
+        self.assertEqual(told, ["c;.--+/-.+./-+.-/+.-.;03", "come +0 -2", "0", "none"])
+        with self.assertRaises(Refused):
+            console.execute("relax 4")
 
 
 if __name__ == "__main__":

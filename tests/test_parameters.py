@@ -3,9 +3,12 @@
 import copy
 import importlib
 import inspect
+import os
+import subprocess
+import sys
 import unittest
 
-from signrounds import alike, choices, doubled, dyes, errors, free_sets, round_signs, threes, trouble, webs
+from signrounds import alike, choices, doubled, dyes, errors, free_sets, joining, round_signs, threes, trouble, webs
 from tests.calls import CALLS, CALM, DEFAULTS, FULL, WEB, good_call, many_values
 from tests.samples import circle_web, empty_web, full_web
 
@@ -50,7 +53,14 @@ INTERFACE = {
         lifted(web,walk,place) dropped(web,walk) shortest_walk(web,place,goal,sign) step_table(web,place)
         walk_counts(web,place,goal,number) doubled_tree_count(web) is_twin_map(table,value) twin_maps(table)
         web_of_twins(table,row)""",
+    "joining": """joined_at(web,other_web,place,spot) joined_all(web,other_web,sign) put_in(web,place,other_web)
+        parted_tie(web,tie) with_place(web,signs) less_place(web,place) drawn(web,tie) trimmed(web)""",
+    "live": "replay(web,deeds,*,limit=None)",
+    "paper_texts": "is_paper(value) paper_text(value) paper_told(text)",
 }
+ROOT = os.path.dirname(os.path.dirname(os.path.abspath(__file__)))
+# These have tests of their own in the place of a call here.
+ELSEWHERE = ["web_told", "paper_text", "paper_told", "replay"]
 PLAIN_TABLES = [repr(table) for table in (
     empty_web(1), empty_web(10), FULL, CALM, doubled.doubled(WEB), doubled.doubled(circle_web(10, True)))]
 
@@ -84,7 +94,7 @@ class Interface(unittest.TestCase):
 
     def test_each_function_is_called_here(self):
         told = [line.split("(")[0] for lines in INTERFACE.values() for line in lines.split()]
-        self.assertEqual(sorted(told), sorted([function.__name__ for function, _ in CALLS] + ["web_told"]))
+        self.assertEqual(sorted(told), sorted([function.__name__ for function, _ in CALLS] + ELSEWHERE))
 
 
 class Calls(unittest.TestCase):
@@ -159,6 +169,17 @@ class Calls(unittest.TestCase):
             self.assertEqual(repr(again), outcome(function, *kept))
             self.assertNotIn("more", repr(again))
 
+    def test_equal_calls_tell_the_same_in_another_process(self):
+        program = "from tests.test_parameters import CALLS, outcome, good_call\n"
+        program += "for function, _ in CALLS: print(outcome(function, *good_call(function)))"
+        told = []
+        for seed in ("0", "1"):
+            done = subprocess.run([sys.executable, "-c", program], capture_output=True, text=True, check=True, cwd=ROOT,
+                                  env=dict(os.environ, PYTHONHASHSEED=seed))
+            told.append(done.stdout.splitlines())
+        self.assertEqual(told[0], told[1])
+        self.assertEqual(told[0], [outcome(function, *good_call(function)) for function, _ in CALLS])
+
     def test_errors_of_a_point_come_behind_those_of_all_parameters(self):
         great, small = full_web(8, 1), full_web(3, -1)
         for error, function, *values in (
@@ -212,6 +233,22 @@ class Calls(unittest.TestCase):
             (errors.TooMany, doubled.twin_maps, doubled.doubled(circle_web(6, True))),
             (errors.InvalidTable, doubled.web_of_twins, full_web(2, -1), (0, 1)),
             (errors.InvalidRow, doubled.web_of_twins, doubled.doubled(great), (0, 1)),
+            (errors.InvalidWeb, joining.joined_at, great, None, 8, 0),
+            (errors.InvalidPlace, joining.joined_at, great, small, 8, 3),
+            (errors.InvalidPlace, joining.joined_at, small, great, 2, 8),
+            (errors.TooMany, joining.joined_at, great, full_web(4, 1), 7, 3),
+            (errors.InvalidSign, joining.joined_all, great, small, 0),
+            (errors.TooMany, joining.joined_all, great, small, 1),
+            (errors.InvalidPlace, joining.put_in, great, 8, None),
+            (errors.InvalidWeb, joining.put_in, great, 7, None),
+            (errors.TooMany, joining.put_in, great, 7, full_web(4, 1)),
+            (errors.InvalidTie, joining.parted_tie, full_web(10, 1), (0, 10)),
+            (errors.TooMany, joining.parted_tie, full_web(10, 1), (0, 9)),
+            (errors.InvalidSigns, joining.with_place, full_web(10, 1), (0,) * 11),
+            (errors.TooMany, joining.with_place, full_web(10, 1), (0,) * 10),
+            (errors.InvalidPlace, joining.less_place, empty_web(1), 0),
+            (errors.InvalidTie, joining.drawn, small, (1, 0)),
+            (errors.NotBalanced, joining.drawn, small, (0, 1)),
         ):
             with self.assertRaises(error, msg=function.__name__):
                 function(*values)

@@ -3,11 +3,14 @@
 import time
 import unittest
 
-from signrounds import alike, camps, choices, class_numbers, classes, doubled, dyes, free_sets, lumps, rests
-from signrounds import round_signs, threes, trouble, webs, weights
+from signrounds import alike, camps, choices, class_numbers, classes, doubled, dyes, free_sets, joining, lumps
+from signrounds import paper_texts, rests, round_signs, threes, trouble, webs, weights
+from signrounds.console import Console
 from signrounds.errors import SignError
+from signrounds.live import LimitedLive, Live, replay
 from tests.calls import CALLS
 from tests.counts import turned_anew
+from tests.plain_live import Situation, answer_or_error, drawn_deed
 from tests.samples import Draw, circle_web, drawn_webs, empty_web, full_web, pairs_tied
 
 SECONDS = 5
@@ -152,6 +155,68 @@ class Times(unittest.TestCase):
             self.quick(doubled.step_table, web, 0)
         for web in webs_of(5):
             self.quick(doubled.twin_maps, doubled.doubled(web))
+
+    def test_joining_of_ten_places(self):
+        for web in webs_of(10):
+            for tie in pairs_tied(web)[::5]:
+                self.quick(joining.drawn, web, tie)
+            self.quick(joining.less_place, web, 3)
+        for web in webs_of(5):
+            for sign in (1, -1):
+                self.quick(joining.joined_all, web, web, sign)
+            self.quick(joining.joined_at, web, webs_of(6)[0], 4, 5)
+            self.quick(joining.put_in, web, 2, webs_of(6)[1])
+
+    def test_papers_of_ten_places(self):
+        for web in webs_of(10):
+            for value in (("camp", web, self.quick(camps.camp, web)), ("ring", web, self.quick(camps.bad_ring, web)),
+                          ("turned", web, turned_anew(web, (0, 3)), (0, 3)), ("unlike", web, web, tuple(range(10)))):
+                self.quick(paper_texts.is_paper, value)
+                self.quick(paper_texts.paper_told, self.quick(paper_texts.paper_text, value))
+            text = webs.web_text(web)
+            for told in (f"r;{text};0987654321", f"u;{text};{text};0123456789", "c;" + "." * 19000, "r;" * 10000):
+                self.quick(paper_texts.paper_told, told)
+
+    def with_deeds(self, draw, live, most):
+        """Do drawn deeds, each of them in a short time."""
+        while len(live.deeds) < most:
+            # Marks of places that came stand for the places at the start.
+            deed = drawn_deed(draw, Situation(live.web, None), False, 0)
+            values = [tuple(live.marks[at] for at in value) if isinstance(value, tuple) else value
+                      for value in deed[1:]]
+            marks = 0 if deed[0] in ("come", "turn", "shake") else 1 if deed[0] == "leave" else 2
+            values[:marks] = [live.marks[at] for at in values[:marks]]
+            if deed[0] != "leave" or len(live.marks) > 8:
+                self.quick(live.would, (deed[0], *values))
+                self.quick(getattr(live, deed[0]), *values)
+
+    def test_live_webs_of_ten_places_behind_sixty_deeds(self):
+        draw = Draw(117)
+        for web in webs_of(10)[::2]:
+            limited = LimitedLive(web, 45)
+            for live in (Live(web), limited):
+                live.begin()
+                self.with_deeds(draw, live, 60)
+                for function in (live.troubles, live.view_foes, live.moments, live.twin):
+                    self.quick(function)
+                self.assertTrue(live == self.quick(live.twin))
+                self.quick(replay, web, live.deeds)
+                self.quick(live.undo)
+                self.quick(live.drop)
+            self.quick(limited.relax, 44)
+
+    def test_a_run_of_64_commands_of_ten_places(self):
+        draw = Draw(118)
+        text = webs.web_text(full_web(10, -1))
+        ties = pairs_tied(full_web(10, -1))
+        for questions in (["troubles"], ["moments", "foes", "paper", "journal"], ["twin b", "same b"], ["flip 0 1"]):
+            commands = [f"limited a 45 {text}", "twin b"]
+            while len(commands) < 64:
+                commands.append("flip {} {}".format(*draw.one(ties)) if draw.below(2) else draw.one(questions))
+            for last in ([], ["leave 99"]):
+                console = Console()
+                self.quick(console.execute, "run " + "; ".join(commands[:64 - len(last)] + last))
+                self.assertEqual(answer_or_error(console.execute, "show")[0], "NotReady" if last else "told")
 
     def test_threes_of_ten_places(self):
         for number in (0, 1, 2**35, 2**36 - 1, 2**36, 10**89):
