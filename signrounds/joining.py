@@ -1,7 +1,7 @@
 """Webs put together, parted, and drawn together."""
 
-from signrounds.base import drawn_into, inner_web, others_of, sign_of_ring, tied_across, told_ring, turned_at
-from signrounds.base import web_of_rows, with_sign
+from signrounds.base import drawn_into, inner_web, others_of, tied_across, told_ring, turned_at, web_of_rows
+from signrounds.base import with_sign
 from signrounds.checks import need_place, need_room, need_sign, need_tie, need_two_webs, need_web
 from signrounds.errors import InvalidPlace, InvalidSigns, NotBalanced
 from signrounds.kinds import is_row_of
@@ -73,10 +73,8 @@ def drawn(web, tie):
     need_tie(web, tie)
     x, y = tie
     for place in others_of(web, tie):
-        if web[x][place] != 0 and web[y][place] != 0:
-            ring = told_ring((x, y, place))
-            if sign_of_ring(web, ring) < 0:
-                raise NotBalanced(ring)
+        if web[x][y] * web[x][place] * web[y][place] < 0:
+            raise NotBalanced(told_ring((x, y, place)))
     return drawn_into(web if web[x][y] > 0 else turned_at(web, (y,)), x, y)
 
 

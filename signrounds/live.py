@@ -13,7 +13,7 @@ class Live:
     def __init__(self, web):
         need_web(web)
         self.start = web
-        self.set_out(None)
+        self._set_out(None)
 
     def __eq__(self, other):
         if not isinstance(other, Live) or self._first != other._first:
@@ -25,7 +25,7 @@ class Live:
         """The list of the deeds that stand, new at each reading."""
         return [step.deed for step in self._steps[1:]]
 
-    def set_out(self, limit):
+    def _set_out(self, limit):
         """Begin at the start, with a limit or with None."""
         self._first = limit
         self.recall(([first_step(self.start, limit)], []))
@@ -39,9 +39,9 @@ class Live:
         steps, spans = memory
         self._steps = list(steps)
         self._spans = list(spans)
-        self.show()
+        self._show()
 
-    def show(self):
+    def _show(self):
         """Set the fields that are read."""
         scene = self._steps[-1].scene
         self.web = scene.web
@@ -55,7 +55,7 @@ class Live:
         """Do the deed, told as in deeds, and return what its method returns."""
         step = next_step(self._steps[-1].scene, deed)
         self._steps.append(step)
-        self.show()
+        self._show()
         return step.answer
 
     def come(self, friends, foes):
@@ -120,30 +120,30 @@ class Live:
         if len(self._steps) - 1 <= (self._spans[-1] if self._spans else 0):
             raise NothingToUndo("there is no deed that may be taken back")
         step = self._steps.pop()
-        self.show()
+        self._show()
         return step.deed
 
     def begin(self):
         """Open a span."""
         self._spans.append(len(self._steps) - 1)
-        self.show()
+        self._show()
 
     def keep(self):
         """End the innermost span; its deeds stay."""
-        self.end_span()
+        self._end_span()
 
     def drop(self):
         """End the innermost span and take its deeds back."""
-        first = self.end_span()
+        first = self._end_span()
         del self._steps[first + 1:]
-        self.show()
+        self._show()
 
-    def end_span(self):
+    def _end_span(self):
         """End the innermost span and return how many deeds were there at its beginning."""
         if not self._spans:
             raise NoSpan("no span is open")
         first = self._spans.pop()
-        self.show()
+        self._show()
         return first
 
     def twin(self):
@@ -160,11 +160,11 @@ class LimitedLive(Live):
         super().__init__(web)
         need_number(limit)
         self.first_limit = limit
-        self.set_out(limit)
+        self._set_out(limit)
 
-    def show(self):
+    def _show(self):
         """Set the fields that are read."""
-        super().show()
+        super()._show()
         self.limit = self._steps[-1].scene.limit
 
     def relax(self, number):

@@ -101,7 +101,8 @@ def with_sign_of(scene, mark, other_mark, sign):
     return scene.with_web(with_sign(scene.web, scene.place(mark), scene.place(other_mark), sign))
 
 
-# Each of these tells the scene behind a deed, ahead of the settling, the marks turned so far, and the answer.
+# What settles behind a deed does so alike for all of them. So the functions of the deeds stop ahead of it: they
+# tell the scene, the marks turned so far, and the answer.
 
 
 def after_come(scene, friends, foes):

@@ -327,7 +327,7 @@ class Commands(unittest.TestCase):
     web web web|web a ;|run web a ;; show|run web a ;;;; use a"""
     WRONG = """|web|web a|web a .  |web  a .| web a .|web a . .|Web a .|web A .|web a1 .|web abcdefghi .|web  .|
     web a  .|limited a .|limited a 00 .|limited a 01 .|limited a -1 .|limited a +1 .|limited a 12345 .|limited a x .|
-    limited a 1|use|use a b|use A|use a |twin|forget|forget a b|same|same 1|come 0|come +|come -|come +0 |come ++0|
+    limited a 1|come 10|come x1|come +1 10|use|use a b|use A|use a |twin|forget|forget a b|same|same 1|come 0|come +|come -|come +0 |come ++0|
     come +00|come +12345|come + 0|come 0+|come +-0|come +a|leave|leave 0 1|leave 00|leave -1|leave a|leave 12345|
     tie 0 1|tie 0 1 1|tie 0 1 ++|tie 0 1 + |tie 0 + 1|tie 0 1 -1|untie 0|untie 0 1 +|flip 0|flip 0 1 2|flip 01 1|
     turn +0|turn 0,1|turn 0  1|turn 01|draw 0|draw|shake x|relax|relax 00|relax 1 2|relax -1|undo 1|undo |begin x|

@@ -99,6 +99,8 @@ class Joined(unittest.TestCase):
         self.assertEqual(sorted(map(len, (joined_at(ONE, ten, 0, 3),))), [10])
         self.assertEqual([len(joined_all(six, four, 1)), len(put_in(six, 3, five))], [10, 10])
         self.assertEqual([put_in(ONE, 0, ten), put_in(ten, 9, ONE)], [ten, ten])
+        nine = full_web(9, -1)
+        self.assertEqual([len(parted_tie(nine, (7, 8))), with_place(nine, (-1,) * 9)], [10, ten])
         for function, *values in (
             (joined_at, six, six, 0, 5), (joined_at, ten, FRIENDS, 9, 1), (joined_at, FRIENDS, ten, 0, 9),
             (joined_all, six, five, 1), (joined_all, ten, ONE, -1), (joined_all, ONE, ten, 1),
